@@ -1,0 +1,1 @@
+"""gatequarters: can any town around notice that a quarter was rebuilt?"""

@@ -1,0 +1,15 @@
+"""Numbers, as the arguments of this package are judged by them."""
+
+from gatequarters.errors import InvalidCount
+
+
+def is_count(value):
+    """Return whether any object is a count, a whole number of at least 0."""
+    # Python takes True and False for integers; here they are none.
+    return isinstance(value, int) and not isinstance(value, bool) and value >= 0
+
+
+def check_count(value):
+    """Raise InvalidCount unless any object is a count."""
+    if not is_count(value):
+        raise InvalidCount(value)
