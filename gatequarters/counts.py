@@ -13,3 +13,9 @@ def check_count(value):
     """Raise InvalidCount unless any object is a count."""
     if not is_count(value):
         raise InvalidCount(value)
+
+
+def check_count_to(value, greatest):
+    """Raise InvalidCount unless any object is a count of at most a number."""
+    if not is_count(value) or value > greatest:
+        raise InvalidCount(value)

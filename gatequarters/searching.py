@@ -45,3 +45,49 @@ def shortest_rows(streets, origins):
 
 def _is_better(row, other):
     return (row[0], len(row[1])) < (other[0], len(other[1]))
+
+
+def least_lengths(streets):
+    """Return a dictionary from tuples of two ends to the least length of a row between them.
+
+    Only pairs with a row, none of its streets shut, are keys; also of an end and itself.
+    """
+    rows = [(start, end, length) for _, start, end, width, length in streets if width > 0]
+    return _least_of_rows(rows, _both)
+
+
+def greatest_widths(streets):
+    """Return a dictionary from tuples of two ends to the greatest width of a row between them.
+
+    Only pairs with a row, none of its streets shut, are keys; also of an end and itself.
+    """
+    # Below 0 the widest is the least, and the narrowest of a row's streets the greatest.
+    rows = [(start, end, -width) for _, start, end, width, _ in streets if width > 0]
+    least = _least_of_rows(rows, _greater)
+    return {pair: -least[pair] for pair in least}
+
+
+def _both(number, other):
+    return number + other
+
+
+def _greater(number, other):
+    return max(number, other)
+
+
+def _least_of_rows(rows, joined):
+    """Return a dictionary from pairs of ends to the least number of rows (start, end, number).
+
+    Two rows one behind the other have the number that joined tells of theirs.
+    """
+    least = {}
+    for start, end, number in rows:
+        least[(start, end)] = min(number, least.get((start, end), number))
+    for middle in sorted({row[1] for row in rows}):
+        into = [(start, number) for (start, end), number in least.items() if end == middle]
+        out = [(end, number) for (start, end), number in least.items() if start == middle]
+        for start, number in into:
+            for end, other in out:
+                told = joined(number, other)
+                least[(start, end)] = min(told, least.get((start, end), told))
+    return least

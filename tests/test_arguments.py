@@ -3,78 +3,23 @@
 import copy
 import unittest
 
-from gatequarters import quarters, ways
-from gatequarters.errors import InvalidChange, InvalidChanges, InvalidCount, InvalidGates, InvalidName
-from gatequarters.errors import InvalidPlace, InvalidQuarter, InvalidStreets, InvalidTown, Unlike
+from gatequarters import alike, quarters
+from gatequarters.errors import InvalidChange, InvalidPlace, Unlike
 from gatequarters.quarters import Quarter, Town
-from tests.support import HOME, LANE, ONE, TWO, odd_objects, plain
-
-REFUSED = {
-    "streets": InvalidStreets, "gates": InvalidGates, "quarter": InvalidQuarter, "elder": InvalidQuarter,
-    "newer": InvalidQuarter, "town": InvalidTown, "start": InvalidPlace, "goal": InvalidPlace,
-    "name": InvalidName, "change": InvalidChange, "changes": InvalidChanges, "width": InvalidCount,
-}
-STREETS = [("main", "in", "out", 2, 1), ("back", "out", "mid", 0, 3)]
-ASKED = {"quarter": TWO, "town": HOME, "start": "home", "goal": "shop"}
-ROW = [("town", "go"), ("quarter", "left"), ("town", "come")]
-MARKS = {("gate", "in"): 1, ("gate", "out"): 2, ("town", "home"): 0, ("town", "shop"): 4}
-
-# Each function with arguments that are right.
-CALLS = [
-    (Quarter, {"streets": STREETS, "gates": ["out", "in"]}),
-    (Town, {"streets": STREETS}),
-    (quarters.crossings_of, {"quarter": LANE}),
-    (quarters.street_of, {"quarter": LANE, "name": "ab"}),
-    (quarters.places_of, {"town": HOME}),
-    (quarters.asked_of, {"quarter": LANE, "town": HOME}),
-    (quarters.changed, {"quarter": ONE, "change": ("width", "main", 7)}),
-    (quarters.changed_by, {"quarter": ONE, "changes": [("out", "main"), ("put", ("main", "out", "in", 2, 1))]}),
-    (quarters.told_changes, {"elder": ONE, "newer": TWO}),
-    (quarters.are_changes, {"elder": ONE, "newer": ONE, "value": []}),
-    (quarters.mirrored, {"quarter": LANE}),
-    (quarters.idle_names, {"quarter": LANE}),
-    (quarters.trimmed, {"quarter": LANE}),
-    (quarters.live_row, {"quarter": LANE, "name": "ab"}),
-    (quarters.is_live_row, {"quarter": LANE, "name": "ab", "value": [("ab", "a", "b", 2, 1)]}),
-    (ways.net_streets, {"quarter": LANE, "town": HOME}),
-    (ways.net_places, {"quarter": LANE, "town": HOME}),
-    (ways.is_way, {**ASKED, "value": ROW}),
-    (ways.way_length, ASKED),
-    (ways.shortest_way, ASKED),
-    (ways.is_shortest_way, {**ASKED, "value": ROW}),
-    (ways.heights, ASKED),
-    (ways.are_heights, {**ASKED, "value": MARKS}),
-    (ways.way_width, ASKED),
-    (ways.widest_way, ASKED),
-    (ways.is_widest_way, {**ASKED, "value": ROW}),
-    (ways.narrow_lot, ASKED),
-    (ways.is_narrow_lot, {**ASKED, "value": [("gate", "in"), ("town", "home")]}),
-    (ways.used_streets, ASKED),
-    (ways.needed_streets, ASKED),
-    (ways.wide_length, {**ASKED, "width": 1}),
-    (ways.trades, ASKED),
-]
+from tests.calls import CALLS, STREETS, error_for, is_right
+from tests.support import ONE, odd_objects, plain
 
 
-def is_right(name, thing):
-    """Return whether a test's odd object is a right argument of its name."""
-    if name == "streets":
-        return plain(thing) in (plain([]), plain(STREETS[:1]))
-    if name == "gates":
-        return plain(thing) == plain(["main"])
-    if name in ("quarter", "elder", "newer"):
-        return isinstance(thing, Quarter)
-    if name == "town":
-        return isinstance(thing, Town)
-    if name in ("start", "goal"):
-        return plain(thing) in (plain("in"),)
-    if name == "width":
-        return plain(thing) in ("0", "1", "7", str(10 ** 29))
-    if name == "change":
-        return plain(thing) == plain(("out", "main"))
-    if name == "changes":
-        return plain(thing) in (plain([]), plain([("out", "main")]))
-    return name == "value"
+def spoil(value):
+    """Empty every list and dictionary in a value."""
+    if isinstance(value, (list, tuple)):
+        for part in value:
+            spoil(part)
+    if isinstance(value, dict):
+        for key in list(value):
+            spoil(value[key])
+    if isinstance(value, (list, dict)):
+        value.clear()
 
 
 class Arguments(unittest.TestCase):
@@ -88,28 +33,36 @@ class Arguments(unittest.TestCase):
         for function, right in CALLS:
             for name in right:
                 for thing in odd_objects():
-                    if is_right(name, thing):
+                    if is_right(function, right, name, thing):
                         continue
-                    self.refused(function, {**right, name: thing}, REFUSED[name], thing)
+                    error = error_for(name, right[name])
+                    self.refused(function, {**right, name: thing}, error, thing)
                     behind = list(right)[list(right).index(name) + 1:]
                     arguments = {**right, name: thing, **{word: True for word in behind}}
-                    self.refused(function, arguments, REFUSED[name], thing)
+                    self.refused(function, arguments, error, thing)
 
     def test_quarters_with_other_gates_are_unlike(self):
-        for gates in (["in"], ["in", "out", "mid"], ["in", "ouu"]):
-            other = Quarter([], gates)
-            self.refused(quarters.told_changes, {"elder": ONE, "newer": other}, Unlike, other)
-            self.refused(quarters.are_changes, {"elder": ONE, "newer": other, "value": None}, Unlike, other)
+        seen = 0
+        for function, right in CALLS:
+            second = [name for name in right if isinstance(right[name], Quarter)][1:]
+            for gates in (["in"], ["in", "out", "mid"], ["in", "ouu"]):
+                for name in second:
+                    other = Quarter([], gates)
+                    behind = list(right)[list(right).index(name) + 1:]
+                    arguments = {**right, name: other, **{word: True for word in behind}}
+                    self.refused(function, arguments, Unlike, other)
+                    seen += 1
+        self.assertGreaterEqual(seen, 3 * 10)
 
     def test_the_goal_is_not_the_start(self):
         for function, right in CALLS:
             if "goal" in right:
-                self.refused(function, {**right, "goal": "home"}, InvalidPlace, right["start"])
+                self.refused(function, {**right, "goal": right["start"]}, InvalidPlace, right["start"])
 
     def test_places_inside_the_quarter_are_not_asked_of(self):
         inner = Quarter([("ax", "in", "mid", 1, 1), ("xb", "mid", "out", 1, 1)], ["in", "out"])
         for function, right in CALLS:
-            if "goal" in right:
+            if "goal" in right and "quarter" in right:
                 self.refused(function, {**right, "quarter": inner, "start": "mid"}, InvalidPlace, "mid")
                 self.refused(function, {**right, "quarter": inner, "goal": "mid"}, InvalidPlace, "mid")
 
@@ -150,8 +103,7 @@ class Arguments(unittest.TestCase):
         for function, right in CALLS:
             first = function(**right)
             before = plain(first)
-            if isinstance(first, (list, dict)):
-                first.clear()
+            spoil(first)
             self.assertEqual(plain(function(**right)), before, function.__name__)
 
 

@@ -1,11 +1,12 @@
-"""The blocks of examples of the document, row by row."""
+"""The blocks of examples of the document and of the README, row by row."""
 
+import pathlib
 import unittest
 
-from gatequarters import quarters, ways
 from tests.support import plain
 
 QUARTERS = '''
+from gatequarters.quarters import Quarter, Town, asked_of, changed, crossings_of, idle_names, live_row, mirrored, told_changes, trimmed
 one = Quarter([("main", "in", "out", 2, 1)], ["in", "out"])
 two = Quarter([("left", "in", "out", 1, 1), ("right", "in", "out", 1, 1)], ["in", "out"])
 [len(told_changes(one, two)), told_changes(one, Quarter([("main", "out", "in", 2, 1)], ["out", "in"])), mirrored(one) == changed(one, ("turn", "main"))]
@@ -18,6 +19,8 @@ asked_of(lane, Town([("ab", "x", "a", 5, 0), ("z", "b", "park", 1, 7)]))
 '''
 
 WAYS = '''
+from gatequarters.quarters import Quarter, Town
+from gatequarters.ways import are_heights, heights, is_narrow_lot, is_way, needed_streets, net_places, shortest_way, trades, used_streets, way_length, way_width, wide_length
 one = Quarter([("main", "in", "out", 2, 1)], ["in", "out"])
 two = Quarter([("left", "in", "out", 1, 1), ("right", "in", "out", 1, 1)], ["in", "out"])
 both = Quarter([("low", "in", "out", 1, 1), ("high", "in", "out", 3, 5), ("off", "in", "out", 0, 0)], ["in", "out"])
@@ -36,19 +39,77 @@ heights(one, town, "home", "shop")
 # [[(1, 4), (3, 8)], 8, None, False]
 '''
 
-README = '''
-one = Quarter([("main", "in", "out", 2, 1)], ["in", "out"])
-town = Town([("go", "home", "in", 5, 1), ("come", "out", "shop", 5, 2)])
-wider = changed(one, ("width", "main", 9))
-[way_length(one, town, "home", "shop"), shortest_way(one, town, "home", "shop"), told_changes(one, wider), trades(wider, town, "home", "shop")]
-# [4, [('town', 'go'), ('quarter', 'main'), ('town', 'come')], [('width', 'main', 9)], [(5, 4)]]
+FLOWS = '''
+from gatequarters.flows import cut_width, far_cut, flow_of, greatest_on, helping_streets, is_flow, is_paper, is_parting, least_cut, least_on
+from gatequarters.flows import most, most_shut, narrow_streets, near_cut, paper_of, streets_of_cut, worst_shut
+from gatequarters.quarters import Quarter, Town
+ring = Quarter([("ab", "a", "b", 1, 1), ("bc", "b", "c", 1, 1), ("ca", "c", "a", 1, 1)], ["a", "b", "c"])
+star = Quarter([("ax", "a", "x", 1, 1), ("bx", "b", "x", 1, 1), ("cx", "c", "x", 1, 1), ("xa", "x", "a", 9, 1), ("xb", "x", "b", 9, 1), ("xc", "x", "c", 9, 1)], ["a", "b", "c"])
+town = Town([("go", "s", "a", 5, 1), ("cross", "s", "c", 5, 1), ("home", "b", "t", 5, 1)])
+[most(ring, town, "s", "t"), most(star, town, "s", "t"), least_cut(ring, town, "s", "t"), narrow_streets(ring, town, "s", "t")]
+# [1, 2, [('gate', 'a'), ('gate', 'c'), ('town', 's')], [('quarter', 'ab')]]
+[narrow_streets(star, town, "s", "t"), helping_streets(star, town, "s", "t"), worst_shut(star, town, "s", "t", 1), most_shut(star, town, "s", "t", ["ax", "cx"])]
+# [[('quarter', 'ax'), ('quarter', 'cx')], [('quarter', 'ax'), ('quarter', 'cx')], ['xb'], 0]
+row = Quarter([("p", "in", "mid", 1, 1), ("q", "mid", "out", 1, 1)], ["in", "out"])
+[near_cut(row, Town([]), "in", "out"), far_cut(row, Town([]), "in", "out"), narrow_streets(row, Town([]), "in", "out"), helping_streets(row, Town([]), "in", "out")]
+# [[('gate', 'in')], [('gate', 'in'), ('quarter', 'mid')], [('quarter', 'p'), ('quarter', 'q')], []]
+pair = Quarter([("left", "in", "out", 1, 1), ("right", "in", "out", 2, 1)], ["in", "out"])
+road = Town([("road", "s", "in", 2, 1)])
+[most(pair, road, "s", "out"), least_on(pair, road, "s", "out", ("quarter", "right")), greatest_on(pair, road, "s", "out", ("quarter", "right"))]
+# [2, 1, 2]
+flow = flow_of(pair, road, "s", "out", 2)
+[is_paper(pair, road, "s", "out", (flow, [("town", "s")])), streets_of_cut(pair, road, "s", "out", [("town", "s")]), cut_width(pair, road, "s", "out", [("gate", "in"), ("town", "s")])]
+# [True, [('town', 'road')], 3]
+both = {("quarter", "left"): 1, ("quarter", "right"): 1, ("town", "road"): 2}
+[is_flow(pair, road, "s", "out", both), is_parting(pair, road, "s", "out", both, [(1, [("town", "road"), ("quarter", "left")]), (1, [("town", "road"), ("quarter", "right")])])]
+# [True, True]
+'''
+
+TABLES = '''
+from gatequarters.quarters import Quarter, Town
+from gatequarters.tables import answer_by, is_entry_paper, least_side, greatest_side, lots_of, side_width, table_of
+one, two = Quarter([("main", "in", "out", 2, 1)], ["in", "out"]), Quarter([("left", "in", "out", 1, 1), ("right", "in", "out", 1, 1)], ["in", "out"])
+[table_of(one, "most"), table_of(two, "most") == table_of(one, "most"), table_of(one, "way"), table_of(one, "widest"), table_of(two, "widest")]
+# [{('in',): 2, ('out',): 0}, True, {('in', 'out'): 1, ('out', 'in'): None}, {('in', 'out'): 2, ('out', 'in'): 0}, {('in', 'out'): 1, ('out', 'in'): 0}]
+[table_of(one, "shut1"), table_of(two, "shut1"), table_of(two, "shut2")]
+# [{('in',): 0, ('out',): 0}, {('in',): 1, ('out',): 0}, {('in',): 0, ('out',): 0}]
+ring = Quarter([("ab", "a", "b", 1, 1), ("bc", "b", "c", 1, 1), ("ca", "c", "a", 1, 1)], ["a", "b", "c"])
+star = Quarter([("ax", "a", "x", 1, 1), ("bx", "b", "x", 1, 1), ("cx", "c", "x", 1, 1), ("xa", "x", "a", 9, 1), ("xb", "x", "b", 9, 1), ("xc", "x", "c", 9, 1)], ["a", "b", "c"])
+[lots_of(ring), list(table_of(ring, "most").values()), list(table_of(star, "most").values())]
+# [[('a',), ('a', 'b'), ('a', 'c'), ('b',), ('b', 'c'), ('c',)], [1, 1, 1, 1, 1, 1], [1, 2, 2, 1, 2, 1]]
+chain = Quarter([("ax", "a", "x", 1, 0), ("xb", "x", "b", 1, 0)], ["a", "b"])
+[least_side(chain, ("a",)), greatest_side(chain, ("a",)), side_width(chain, ["a", "x"]), greatest_side(chain, ("b",))]
+# [['a'], ['a', 'x'], 1, ['b', 'x']]
+[is_entry_paper(chain, "most", ("a",), ({"ax": 1, "xb": 1}, ["a"])), is_entry_paper(chain, "way", ("a", "b"), ([("ax", "a", "x", 1, 0), ("xb", "x", "b", 1, 0)], {"a": 0, "b": 0, "x": 0}))]
+# [True, True]
+link = Town([("t", "a", "b", 99, 0)])
+[answer_by(["a", "b", "c"], "most", table_of(ring, "most"), link, "a", "c"), answer_by(["a", "b", "c"], "most", table_of(star, "most"), link, "a", "c"), answer_by(["a", "b", "c"], "way", table_of(ring, "way"), link, "a", "c")]
+# [1, 2, 1]
+'''
+
+ALIKE = '''
+from gatequarters.alike import alike_measures, are_even, asked, gates_needed, is_alike, is_notice, notice_size, unlike_keys
+from gatequarters.quarters import Quarter, Town
+one, two = Quarter([("main", "in", "out", 2, 1)], ["in", "out"]), Quarter([("left", "in", "out", 1, 1), ("right", "in", "out", 1, 1)], ["in", "out"])
+[alike_measures(one, two), is_alike(one, two, "widest"), unlike_keys(one, two, "shut1")]
+# [['most', 'shut2', 'way'], False, [('in',)]]
+ring = Quarter([("ab", "a", "b", 1, 1), ("bc", "b", "c", 1, 1), ("ca", "c", "a", 1, 1)], ["a", "b", "c"])
+star = Quarter([("ax", "a", "x", 1, 1), ("bx", "b", "x", 1, 1), ("cx", "c", "x", 1, 1), ("xa", "x", "a", 9, 1), ("xb", "x", "b", 9, 1), ("xc", "x", "c", 9, 1)], ["a", "b", "c"])
+link = Town([("t", "a", "b", 99, 0)])
+[unlike_keys(ring, star, "most"), asked(ring, "most", link, "a", "c"), asked(star, "most", link, "a", "c")]
+# [[('a', 'b'), ('a', 'c'), ('b', 'c')], 1, 2]
+[is_notice(ring, star, "most", (link, "a", "c")), is_notice(ring, star, "most", (Town([]), "a", "c")), notice_size(ring, star, "most"), gates_needed(ring, star, "most"), gates_needed(one, two, "widest")]
+# [True, False, 1, 3, 2]
+[are_even(["a", "b"], "most", Town([("t", "a", "b", 1, 0)]), Town([("t", "a", "b", 1, 5), ("u", "b", "a", 9, 0)]), "a", "b"), are_even(["a", "b"], "way", Town([("t", "a", "b", 1, 0)]), Town([("t", "a", "b", 1, 5)]), "a", "b")]
+# [True, False]
 '''
 
 
+
 class Examples(unittest.TestCase):
-    def run_block(self, block, many):
-        names = {**vars(quarters), **vars(ways)}
-        rows = block.strip().split("\n")
+    def run_rows(self, rows, many):
+        """Run rows of code; each result that is told, behind "# ", is that of the row ahead."""
+        names = {}
         told = 0
         for row, behind in zip(rows, rows[1:] + [""]):
             if behind.startswith("# "):
@@ -58,14 +119,33 @@ class Examples(unittest.TestCase):
                 exec(row, names)
         self.assertEqual(told, many)
 
-    def test_quarters_and_towns(self):
+    def run_block(self, block, many):
+        self.run_rows(block.strip().split("\n"), many)
+
+    def test_quarters(self):
         self.run_block(QUARTERS, 3)
 
     def test_ways(self):
         self.run_block(WAYS, 6)
 
+    def test_flows(self):
+        self.run_block(FLOWS, 6)
+
+    def test_tables(self):
+        self.run_block(TABLES, 6)
+
+    def test_alike(self):
+        self.run_block(ALIKE, 4)
+
     def test_readme(self):
-        self.run_block(README, 1)
+        readme = pathlib.Path(__file__).resolve().parent.parent / "README.md"
+        code = readme.read_text(encoding="utf-8").split("```python\n")[1].split("```")[0]
+        rows = []
+        for row in code.strip().split("\n"):
+            # In the README a result stands behind its row.
+            rows.extend(part.strip() for part in row.replace("  # ", "\n# ").split("\n"))
+        self.run_rows([row for row in rows if row], sum(row.startswith("# ") for row in rows))
+        self.assertGreater(len(rows), 8)
 
 
 if __name__ == "__main__":

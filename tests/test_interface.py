@@ -4,48 +4,82 @@ import importlib
 import inspect
 import unittest
 
+from tests.calls import CALLS
+
 INTERFACE = {
-    "gatequarters.quarters": {
-        "is_word": ["value"], "is_street": ["value"], "Quarter": ["streets", "gates"], "Town": ["streets"],
-        "crossings_of": ["quarter"], "street_of": ["quarter", "name"], "places_of": ["town"],
-        "asked_of": ["quarter", "town"], "changed": ["quarter", "change"], "changed_by": ["quarter", "changes"],
-        "told_changes": ["elder", "newer"], "are_changes": ["elder", "newer", "value"], "mirrored": ["quarter"],
-        "idle_names": ["quarter"], "trimmed": ["quarter"], "live_row": ["quarter", "name"],
-        "is_live_row": ["quarter", "name", "value"],
-    },
-    "gatequarters.ways": {
-        "net_streets": ["quarter", "town"], "net_places": ["quarter", "town"],
-        "is_way": ["quarter", "town", "start", "goal", "value"],
-        "way_length": ["quarter", "town", "start", "goal"],
-        "shortest_way": ["quarter", "town", "start", "goal"],
-        "is_shortest_way": ["quarter", "town", "start", "goal", "value"],
-        "heights": ["quarter", "town", "start", "goal"],
-        "are_heights": ["quarter", "town", "start", "goal", "value"],
-        "way_width": ["quarter", "town", "start", "goal"],
-        "widest_way": ["quarter", "town", "start", "goal"],
-        "is_widest_way": ["quarter", "town", "start", "goal", "value"],
-        "narrow_lot": ["quarter", "town", "start", "goal"],
-        "is_narrow_lot": ["quarter", "town", "start", "goal", "value"],
-        "used_streets": ["quarter", "town", "start", "goal"],
-        "needed_streets": ["quarter", "town", "start", "goal"],
-        "wide_length": ["quarter", "town", "start", "goal", "width"],
-        "trades": ["quarter", "town", "start", "goal"],
-    },
+    "gatequarters.quarters": [
+        "is_word(value)", "is_street(value)", "Quarter(streets, gates)", "Town(streets)", "crossings_of(quarter)",
+        "street_of(quarter, name)", "places_of(town)", "asked_of(quarter, town)", "changed(quarter, change)",
+        "changed_by(quarter, changes)", "told_changes(elder, newer)", "are_changes(elder, newer, value)",
+        "mirrored(quarter)", "idle_names(quarter)", "trimmed(quarter)", "live_row(quarter, name)",
+        "is_live_row(quarter, name, value)",
+    ],
+    "gatequarters.ways": [
+        "net_streets(quarter, town)", "net_places(quarter, town)", "is_way(quarter, town, start, goal, value)",
+        "way_length(quarter, town, start, goal)", "shortest_way(quarter, town, start, goal)",
+        "is_shortest_way(quarter, town, start, goal, value)", "heights(quarter, town, start, goal)",
+        "are_heights(quarter, town, start, goal, value)", "way_width(quarter, town, start, goal)",
+        "widest_way(quarter, town, start, goal)", "is_widest_way(quarter, town, start, goal, value)",
+        "narrow_lot(quarter, town, start, goal)", "is_narrow_lot(quarter, town, start, goal, value)",
+        "used_streets(quarter, town, start, goal)", "needed_streets(quarter, town, start, goal)",
+        "wide_length(quarter, town, start, goal, width)", "trades(quarter, town, start, goal)",
+    ],
+    "gatequarters.flows": [
+        "is_flow(quarter, town, start, goal, value)", "amount_of(quarter, town, start, goal, flow)",
+        "is_cut(quarter, town, start, goal, value)", "streets_of_cut(quarter, town, start, goal, cut)",
+        "cut_width(quarter, town, start, goal, cut)", "most(quarter, town, start, goal)",
+        "top_flow(quarter, town, start, goal)", "least_cut(quarter, town, start, goal)",
+        "is_top_flow(quarter, town, start, goal, value)", "is_least_cut(quarter, town, start, goal, value)",
+        "paper_of(quarter, town, start, goal)", "is_paper(quarter, town, start, goal, value)",
+        "near_cut(quarter, town, start, goal)", "far_cut(quarter, town, start, goal)",
+        "narrow_streets(quarter, town, start, goal)", "helping_streets(quarter, town, start, goal)",
+        "flow_of(quarter, town, start, goal, amount)", "parting_of(quarter, town, start, goal, flow)",
+        "is_parting(quarter, town, start, goal, flow, value)", "least_on(quarter, town, start, goal, street)",
+        "greatest_on(quarter, town, start, goal, street)", "most_shut(quarter, town, start, goal, names)",
+        "worst_shut(quarter, town, start, goal, many)", "is_worst_shut(quarter, town, start, goal, many, value)",
+    ],
+    "gatequarters.tables": [
+        "answer_by(gates, measure, table, town, start, goal)", "entry_paper(quarter, measure, key)",
+        "greatest_side(quarter, lot)", "is_entry_paper(quarter, measure, key, value)",
+        "is_lot_flow(quarter, lot, value)", "is_narrowest_side(quarter, lot, value)",
+        "is_table(gates, measure, value)", "least_side(quarter, lot)", "lot_flow(quarter, lot)", "lots_of(quarter)",
+        "side_width(quarter, side)", "table_of(quarter, measure)",
+    ],
+    "gatequarters.alike": [
+        "alike_measures(one, other)", "are_even(gates, measure, one, other, start, goal)",
+        "asked(quarter, measure, town, start, goal)", "gates_needed(one, other, measure)",
+        "hearing_quarter(gates, measure, one, other, start, goal)", "is_alike(one, other, measure)",
+        "is_hearing_quarter(gates, measure, one, other, start, goal, value)", "is_notice(one, other, measure, value)",
+        "notice_at(one, other, measure, key)", "notice_of(one, other, measure)", "notice_size(one, other, measure)",
+        "unlike_keys(one, other, measure)",
+    ],
 }
 METHODS = {"Quarter": ["streets", "gates", "__eq__"], "Town": ["streets", "__eq__"]}
 
 
 class Interface(unittest.TestCase):
+    def things(self):
+        """Yield each function and class of the interface with its module, name and arguments."""
+        for module, rows in INTERFACE.items():
+            for row in rows:
+                name, arguments = row[:-1].split("(")
+                yield getattr(importlib.import_module(module), name), module, name, arguments.split(", ")
+
     def test_each_name_takes_the_arguments_of_the_interface(self):
-        for module, names in INTERFACE.items():
-            for name, arguments in names.items():
-                thing = getattr(importlib.import_module(module), name)
-                self.assertEqual(list(inspect.signature(thing).parameters), arguments, name)
+        for thing, _, name, arguments in self.things():
+            parameters = inspect.signature(thing).parameters
+            self.assertEqual(list(parameters), arguments, name)
+            self.assertTrue(all(part.default is part.empty for part in parameters.values()), name)
 
     def test_each_name_is_defined_in_its_own_file(self):
-        for module, names in INTERFACE.items():
-            for name in names:
-                self.assertEqual(getattr(importlib.import_module(module), name).__module__, module, name)
+        for thing, module, name, _ in self.things():
+            self.assertEqual((thing.__module__, thing.__name__), (module, name))
+
+    def test_each_function_is_called_by_the_tests_of_arguments(self):
+        called = [function for function, _ in CALLS]
+        for thing, _, name, _ in self.things():
+            if name not in ("is_word", "is_street"):
+                self.assertIn(thing, called, name)
 
     def test_each_method_stands_in_its_class(self):
         quarters = importlib.import_module("gatequarters.quarters")

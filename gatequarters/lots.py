@@ -1,0 +1,41 @@
+"""Lots: some of the things of a list, told as ascending lists of them or by positions.
+
+A position tells a lot of a list's things by its ones: the thing at k is in it if the
+position has the sign 1 << k.
+"""
+
+from gatequarters.errors import InvalidLot
+
+
+def is_sublist(value, things):
+    """Return whether any object is a list of some of the things, in their order."""
+    return isinstance(value, list) and value == [thing for thing in things if thing in value]
+
+
+def check_names(quarter, value):
+    """Raise InvalidLot unless any object is an ascending list of names of a quarter's streets."""
+    if not is_sublist(value, [street[0] for street in quarter.streets()]):
+        raise InvalidLot(value)
+
+
+def chosen(things, position):
+    """Return the list of the things that a position tells."""
+    return [thing for at, thing in enumerate(things) if position >> at & 1]
+
+
+def position_of(things, some):
+    """Return the position that tells some of the things."""
+    return sum([1 << at for at, thing in enumerate(things) if thing in some])
+
+
+def gate_lots(gates):
+    """Return the ascending list of the lots of ascending gates: of not none, and not all."""
+    return sorted([tuple(chosen(gates, position)) for position in range(1, (1 << len(gates)) - 1)])
+
+
+def check_lot(gates, value):
+    """Raise InvalidLot unless any object is a lot of ascending gates."""
+    if not isinstance(value, tuple) or list(value) != [gate for gate in gates if gate in value]:
+        raise InvalidLot(value)
+    if not 0 < len(value) < len(gates):
+        raise InvalidLot(value)

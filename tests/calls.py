@@ -1,0 +1,137 @@
+"""Each function of the interface with arguments that are right, and what refuses wrong ones."""
+
+from gatequarters import alike, flows, quarters, tables, ways
+from gatequarters import errors
+from gatequarters.quarters import Quarter, Town
+from tests.support import HOME, LANE, ONE, TWO, plain
+
+REFUSED = {
+    "streets": errors.InvalidStreets, "gates": errors.InvalidGates, "start": errors.InvalidPlace,
+    "goal": errors.InvalidPlace, "name": errors.InvalidName, "street": errors.InvalidName,
+    "change": errors.InvalidChange, "changes": errors.InvalidChanges, "width": errors.InvalidCount,
+    "amount": errors.InvalidCount, "many": errors.InvalidCount, "flow": errors.InvalidFlow,
+    "cut": errors.InvalidCut, "side": errors.InvalidCut, "names": errors.InvalidLot, "lot": errors.InvalidLot,
+    "key": errors.InvalidLot, "measure": errors.InvalidMeasure, "table": errors.InvalidTable,
+}
+STREETS = [("main", "in", "out", 2, 1), ("back", "out", "mid", 0, 3)]
+ASKED = {"quarter": TWO, "town": HOME, "start": "home", "goal": "shop"}
+ROW = [("town", "go"), ("quarter", "left"), ("town", "come")]
+MARKS = {("gate", "in"): 1, ("gate", "out"): 2, ("town", "home"): 0, ("town", "shop"): 4}
+FLOW = {("quarter", "left"): 1, ("quarter", "right"): 0, ("town", "come"): 1, ("town", "go"): 1}
+FULL = {("quarter", "left"): 1, ("quarter", "right"): 1, ("town", "come"): 2, ("town", "go"): 2}
+CUT = [("gate", "in"), ("town", "home")]
+MOST = {("in",): 2, ("out",): 0}
+SLOW = Town([("go", "home", "in", 2, 1), ("come", "out", "shop", 5, 2)])
+EVEN = {"gates": ["out", "in"], "measure": "most", "one": HOME, "other": SLOW, "start": "home", "goal": "shop"}
+
+# Each function with arguments that are right; a judge's value is such that it is true.
+CALLS = [
+    (Quarter, {"streets": STREETS, "gates": ["out", "in"]}),
+    (Town, {"streets": STREETS}),
+    (quarters.crossings_of, {"quarter": LANE}),
+    (quarters.street_of, {"quarter": LANE, "name": "ab"}),
+    (quarters.places_of, {"town": HOME}),
+    (quarters.asked_of, {"quarter": LANE, "town": HOME}),
+    (quarters.changed, {"quarter": ONE, "change": ("width", "main", 7)}),
+    (quarters.changed_by, {"quarter": ONE, "changes": [("out", "main"), ("put", ("main", "out", "in", 2, 1))]}),
+    (quarters.told_changes, {"elder": ONE, "newer": TWO}),
+    (quarters.are_changes, {"elder": ONE, "newer": ONE, "value": []}),
+    (quarters.mirrored, {"quarter": LANE}),
+    (quarters.idle_names, {"quarter": LANE}),
+    (quarters.trimmed, {"quarter": LANE}),
+    (quarters.live_row, {"quarter": LANE, "name": "ab"}),
+    (quarters.is_live_row, {"quarter": LANE, "name": "ab", "value": [("ab", "a", "b", 2, 1)]}),
+    (ways.net_streets, {"quarter": LANE, "town": HOME}),
+    (ways.net_places, {"quarter": LANE, "town": HOME}),
+    (ways.is_way, {**ASKED, "value": ROW}),
+    (ways.way_length, ASKED),
+    (ways.shortest_way, ASKED),
+    (ways.is_shortest_way, {**ASKED, "value": ROW}),
+    (ways.heights, ASKED),
+    (ways.are_heights, {**ASKED, "value": MARKS}),
+    (ways.way_width, ASKED),
+    (ways.widest_way, ASKED),
+    (ways.is_widest_way, {**ASKED, "value": ROW}),
+    (ways.narrow_lot, ASKED),
+    (ways.is_narrow_lot, {**ASKED, "value": CUT}),
+    (ways.used_streets, ASKED),
+    (ways.needed_streets, ASKED),
+    (ways.wide_length, {**ASKED, "width": 1}),
+    (ways.trades, ASKED),
+    (flows.is_flow, {**ASKED, "value": FLOW}),
+    (flows.amount_of, {**ASKED, "flow": FLOW}),
+    (flows.is_cut, {**ASKED, "value": CUT}),
+    (flows.streets_of_cut, {**ASKED, "cut": CUT}),
+    (flows.cut_width, {**ASKED, "cut": CUT}),
+    (flows.most, ASKED),
+    (flows.top_flow, ASKED),
+    (flows.least_cut, ASKED),
+    (flows.is_top_flow, {**ASKED, "value": FULL}),
+    (flows.is_least_cut, {**ASKED, "value": CUT}),
+    (flows.paper_of, ASKED),
+    (flows.is_paper, {**ASKED, "value": (FULL, CUT)}),
+    (flows.near_cut, ASKED),
+    (flows.far_cut, ASKED),
+    (flows.narrow_streets, ASKED),
+    (flows.helping_streets, ASKED),
+    (flows.flow_of, {**ASKED, "amount": 1}),
+    (flows.parting_of, {**ASKED, "flow": FLOW}),
+    (flows.is_parting, {**ASKED, "flow": FLOW, "value": [(1, ROW)]}),
+    (flows.least_on, {**ASKED, "street": ("quarter", "left")}),
+    (flows.greatest_on, {**ASKED, "street": ("town", "go")}),
+    (flows.most_shut, {**ASKED, "names": ["left"]}),
+    (flows.worst_shut, {**ASKED, "many": 1}),
+    (flows.is_worst_shut, {**ASKED, "many": 1, "value": ["right"]}),
+    (tables.lots_of, {"quarter": TWO}),
+    (tables.side_width, {"quarter": LANE, "side": ["a", "x"]}),
+    (tables.least_side, {"quarter": LANE, "lot": ("a", "c")}),
+    (tables.greatest_side, {"quarter": LANE, "lot": ("a", "c")}),
+    (tables.is_narrowest_side, {"quarter": TWO, "lot": ("in",), "value": ["in"]}),
+    (tables.table_of, {"quarter": LANE, "measure": "shut1"}),
+    (tables.lot_flow, {"quarter": TWO, "lot": ("in",)}),
+    (tables.is_lot_flow, {"quarter": TWO, "lot": ("in",), "value": {"left": 1, "right": 1}}),
+    (tables.entry_paper, {"quarter": TWO, "measure": "shut1", "key": ("in",)}),
+    (tables.is_entry_paper, {"quarter": TWO, "measure": "widest", "key": ("out", "in"), "value": (None, ["out"])}),
+    (tables.is_table, {"gates": ["out", "in"], "measure": "most", "value": MOST}),
+    (tables.answer_by, {"gates": ["out", "in"], "measure": "most", "table": MOST, "town": HOME, "start": "home",
+                        "goal": "shop"}),
+    (alike.alike_measures, {"one": ONE, "other": TWO}),
+    (alike.is_alike, {"one": ONE, "other": TWO, "measure": "most"}),
+    (alike.asked, {"quarter": TWO, "measure": "shut2", "town": HOME, "start": "home", "goal": "shop"}),
+    (alike.notice_of, {"one": ONE, "other": TWO, "measure": "widest"}),
+    (alike.notice_size, {"one": ONE, "other": TWO, "measure": "shut1"}),
+    (alike.is_notice, {"one": ONE, "other": TWO, "measure": "widest", "value": (HOME, "home", "shop")}),
+    (alike.unlike_keys, {"one": ONE, "other": TWO, "measure": "shut1"}),
+    (alike.notice_at, {"one": ONE, "other": TWO, "measure": "widest", "key": ("in", "out")}),
+    (alike.gates_needed, {"one": ONE, "other": TWO, "measure": "shut1"}),
+    (alike.are_even, EVEN),
+    (alike.hearing_quarter, EVEN),
+    (alike.is_hearing_quarter, {**EVEN, "value": Quarter([("wide", "in", "out", 3, 0)], ["in", "out"])}),
+]
+
+# What is right, too, of the odd objects of the tests, by the names of the arguments.
+RIGHT = {
+    "streets": [[], STREETS[:1]], "gates": [["main"]], "start": ["in"], "goal": ["in"],
+    "width": [0, 1, 7, 10 ** 29], "amount": [0, 1], "many": [0, 1], "change": [("out", "main")],
+    "changes": [[], [("out", "main")]], "names": [[]], "side": [[]], "name": [], "street": [], "flow": [],
+    "cut": [], "lot": [], "measure": [], "table": [], "key": [],
+}
+
+
+def error_for(name, right):
+    """Return the error that refuses what is no argument of a name, where this is a right one."""
+    if isinstance(right, Quarter):
+        return errors.InvalidQuarter
+    return errors.InvalidTown if isinstance(right, Town) else REFUSED[name]
+
+
+def is_right(function, right, name, thing):
+    """Return whether an odd object is a right argument of a function, or none is wrong."""
+    if name == "value":
+        return True
+    for kind in (Quarter, Town):
+        if isinstance(right[name], kind):
+            return isinstance(thing, kind)
+    if name == "key" and isinstance(right["key"], tuple) and len(right["key"]) == 2:
+        return plain(thing) == plain(("in", "out"))
+    return plain(thing) in [plain(other) for other in RIGHT[name]]
