@@ -4,6 +4,8 @@ A position tells a lot of a list's things by its ones: the thing at k is in it i
 position has the sign 1 << k.
 """
 
+from itertools import combinations
+
 from gatequarters.errors import InvalidLot
 
 
@@ -39,3 +41,44 @@ def check_lot(gates, value):
         raise InvalidLot(value)
     if not 0 < len(value) < len(gates):
         raise InvalidLot(value)
+
+
+def lies_within(lot, other):
+    """Return whether all things of a lot are in another one."""
+    return all([thing in other for thing in lot])
+
+
+def _sorted_out(things, holds):
+    """Return the lots for which something holds, while for none within, and those for which not."""
+    least, others = [], []
+    for many in range(len(things) + 1):
+        for some in combinations(things, many):
+            lot = list(some)
+            if any([lies_within(found, lot) for found in least]):
+                continue
+            if holds(lot):
+                least.append(lot)
+            else:
+                others.append(lot)
+    return (least, others)
+
+
+def fewest_lots(things, holds):
+    """Return the ascending list of the lots for which something holds, while for none within.
+
+    The things are ascending; what holds for a lot must hold for all lots that it lies in.
+    """
+    return sorted(_sorted_out(things, holds)[0])
+
+
+def most_lots(things, holds):
+    """Return the ascending list of the lots for which something does not hold, in no other such one.
+
+    The things are ascending; what holds for a lot must hold for all lots that it lies in.
+    """
+    most = []
+    # The longest come first, so what lies in another lot lies in one that is there.
+    for lot in _sorted_out(things, holds)[1][::-1]:
+        if not any([lies_within(lot, other) for other in most]):
+            most.append(lot)
+    return sorted(most)

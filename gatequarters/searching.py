@@ -15,6 +15,11 @@ def wide_streets(streets, width):
     return [street for street in streets if street[3] >= width]
 
 
+def open_names(streets):
+    """Return the names of the streets that are not shut."""
+    return [street[0] for street in wide_streets(streets, 1)]
+
+
 def is_row(streets):
     """Return whether no street is shut and each begins where the one ahead ends."""
     if any([street[3] == 0 for street in streets]):

@@ -36,9 +36,20 @@ def width_sum(streets):
     return sum([street[3] for street in streets])
 
 
+def set_widths(streets, names, number):
+    """Return the streets, those of some names with another width."""
+    return [(name, start, end, number if name in names else width, length)
+            for name, start, end, width, length in streets]
+
+
 def shut_streets(streets, names):
     """Return the streets, those of some names with the width 0."""
-    return [(name, start, end, 0 if name in names else width, length)
+    return set_widths(streets, names, 0)
+
+
+def set_lengths(streets, names, number):
+    """Return the streets, those of some names with another length."""
+    return [(name, start, end, width, number if name in names else length)
             for name, start, end, width, length in streets]
 
 

@@ -1,16 +1,17 @@
 """Tables of a quarter: what a town can see of it, and papers that hold each entry."""
 
 from gatequarters.counts import is_count
+from gatequarters.entries import entries_of
 from gatequarters.entrypapers import crossing_paper, is_crossing_paper, is_lot_paper, is_shut_paper
 from gatequarters.entrypapers import shut_paper
 from gatequarters.errors import InvalidCut, InvalidLot, InvalidTable
 from gatequarters.lotflows import full_lot_flow, is_lot_load, lot_amount
-from gatequarters.lots import check_lot, gate_lots, is_sublist, position_of
-from gatequarters.measures import all_measures, check_measure, is_of_pairs, keys_of, shut_by
+from gatequarters.lots import check_lot, gate_lots, is_sublist
+from gatequarters.measures import all_measures, check_measure, is_of_pairs, keys_of
 from gatequarters.nets import check_places
 from gatequarters.quarters import check_gates, check_quarter, crossings_of, places_of
-from gatequarters.searching import greatest_widths, least_lengths, shortest_rows
-from gatequarters.sides import least_widths, narrowest_sides, town_cuts
+from gatequarters.searching import greatest_widths, shortest_rows
+from gatequarters.sides import narrowest_sides, town_cuts
 from gatequarters.streams import leaving_streets, width_sum
 
 
@@ -58,24 +59,11 @@ def is_narrowest_side(quarter, lot, value):
     return width_sum(leaving_streets(quarter.streets(), value)) == table_of(quarter, "most")[lot]
 
 
-def _lot_table(streets, gates, many):
-    """Return the table of the least widths of sides if so many streets are shut."""
-    least = least_widths(streets, gates, many)
-    return {lot: least[position_of(gates, lot)] for lot in gate_lots(gates)}
-
-
 def table_of(quarter, measure):
     """Return the table of a quarter by a measure, its keys ascending."""
     check_quarter(quarter)
     check_measure(measure, all_measures())
-    gates = quarter.gates()
-    if not is_of_pairs(measure):
-        return _lot_table(quarter.streets(), gates, shut_by(measure))
-    if measure == "way":
-        lengths = least_lengths(quarter.streets())
-        return {key: lengths.get(key) for key in keys_of(gates, measure)}
-    widths = greatest_widths(quarter.streets())
-    return {key: widths.get(key, 0) for key in keys_of(gates, measure)}
+    return entries_of(quarter.streets(), quarter.gates(), measure)
 
 
 def lot_flow(quarter, lot):

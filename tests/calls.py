@@ -1,7 +1,6 @@
 """Each function of the interface with arguments that are right, and what refuses wrong ones."""
 
-from gatequarters import alike, flows, quarters, tables, ways
-from gatequarters import errors
+from gatequarters import alike, errors, failing, flows, orders, quarters, rooms, spares, tables, ways
 from gatequarters.quarters import Quarter, Town
 from tests.support import HOME, LANE, ONE, TWO, plain
 
@@ -12,6 +11,7 @@ REFUSED = {
     "amount": errors.InvalidCount, "many": errors.InvalidCount, "flow": errors.InvalidFlow,
     "cut": errors.InvalidCut, "side": errors.InvalidCut, "names": errors.InvalidLot, "lot": errors.InvalidLot,
     "key": errors.InvalidLot, "measure": errors.InvalidMeasure, "table": errors.InvalidTable,
+    "other": errors.InvalidName,
 }
 STREETS = [("main", "in", "out", 2, 1), ("back", "out", "mid", 0, 3)]
 ASKED = {"quarter": TWO, "town": HOME, "start": "home", "goal": "shop"}
@@ -23,6 +23,12 @@ CUT = [("gate", "in"), ("town", "home")]
 MOST = {("in",): 2, ("out",): 0}
 SLOW = Town([("go", "home", "in", 2, 1), ("come", "out", "shop", 5, 2)])
 EVEN = {"gates": ["out", "in"], "measure": "most", "one": HOME, "other": SLOW, "start": "home", "goal": "shop"}
+PAIR = {"elder": ONE, "newer": TWO}
+FIRST = {"quarter": TWO, "name": "left", "measure": "most"}
+TRADE = {"quarter": TWO, "name": "left", "width": 7, "other": "right", "measure": "most"}
+FAILING = {"quarter": TWO, "lot": ("in",), "many": 1}
+CHANGES = [("width", "left", 2), ("width", "right", 0)]
+PAPER = [(["left"], {"left": 0, "right": 1}), (["right"], {"left": 1, "right": 0})]
 
 # Each function with arguments that are right; a judge's value is such that it is true.
 CALLS = [
@@ -107,6 +113,54 @@ CALLS = [
     (alike.are_even, EVEN),
     (alike.hearing_quarter, EVEN),
     (alike.is_hearing_quarter, {**EVEN, "value": Quarter([("wide", "in", "out", 3, 0)], ["in", "out"])}),
+    (orders.never_worse, {**PAIR, "measure": "shut1"}),
+    (orders.worse_entries, {**PAIR, "measure": "widest"}),
+    (orders.standing, {**PAIR, "measure": "widest"}),
+    (orders.greatest_loss, {**PAIR, "measure": "widest"}),
+    (orders.worse_town, {**PAIR, "measure": "widest"}),
+    (orders.is_worse_town, {**PAIR, "measure": "widest", "value": (HOME, "home", "shop")}),
+    (orders.mending_lots, {**PAIR, "measure": "widest"}),
+    (orders.is_mending, {**PAIR, "measure": "widest", "lot": ["left"]}),
+    (orders.least_width, {**PAIR, "name": "left", "measure": "widest"}),
+    (rooms.entries_with, {"quarter": TWO, "name": "left", "width": 3, "measure": "most"}),
+    (rooms.noticed_at, {"quarter": TWO, "name": "left", "width": 3, "measure": "most"}),
+    (rooms.width_room, FIRST),
+    (rooms.width_bars, FIRST),
+    (rooms.are_width_bars, {**FIRST, "value": (("in",), ("in",))}),
+    (rooms.length_room, {"quarter": TWO, "name": "right"}),
+    (rooms.length_bars, {"quarter": TWO, "name": "right"}),
+    (rooms.are_length_bars, {"quarter": TWO, "name": "right", "value": (("in", "out"), None)}),
+    (rooms.trade_room, TRADE),
+    (rooms.trade_bars, TRADE),
+    (rooms.are_trade_bars, {**TRADE, "value": [("in",)]}),
+    (spares.with_shut, {"quarter": TWO, "names": ["left"]}),
+    (spares.with_widened, {"quarter": TWO, "names": ["left"]}),
+    (spares.is_spare, {"quarter": TWO, "measure": "way", "value": ["left"]}),
+    (spares.spare_lots, {"quarter": TWO, "measure": "way"}),
+    (spares.unspared_streets, {"quarter": TWO, "measure": "most"}),
+    (spares.harmful_lots, {"quarter": TWO, "measure": "way"}),
+    (spares.is_wide, {"quarter": TWO, "measure": "way", "value": ["left", "right"]}),
+    (spares.wide_lots, {"quarter": TWO, "measure": "way"}),
+    (spares.lot_quarter, {"quarter": TWO, "changes": CHANGES, "lot": [0, 1]}),
+    (spares.noticed_lots, {"quarter": TWO, "changes": CHANGES, "measure": "most"}),
+    (spares.unnoticed_lots, {"quarter": TWO, "changes": CHANGES, "measure": "most"}),
+    (spares.sure_streets, {"quarter": ONE}),
+    (spares.dead_streets, {"quarter": LANE}),
+    (failing.most_left, FAILING),
+    (failing.worst_shutting, FAILING),
+    (failing.is_worst_shutting, {**FAILING, "value": ["left"]}),
+    (failing.failing_paper, FAILING),
+    (failing.is_failing_paper, {**FAILING, "value": PAPER}),
+    (failing.lowering_streets, {"quarter": TWO, "lot": ("in",)}),
+    (failing.cutting_streets, {"quarter": TWO, "lot": ("in",)}),
+    (failing.losses, {"quarter": TWO, "many": 1}),
+    (failing.is_safe, {"quarter": TWO, "many": 1}),
+    (failing.loss_by_shutting, {"quarter": TWO, "many": 1}),
+    (failing.losing_town, {"quarter": TWO, "many": 1}),
+    (failing.is_losing_town, {"quarter": TWO, "many": 1, "value": (HOME, "home", "shop")}),
+    (failing.doubled, {"quarter": TWO, "names": ["left"]}),
+    (failing.fewest_doubled, {"quarter": TWO}),
+    (failing.is_fewest_doubled, {"quarter": TWO, "value": ["left"]}),
 ]
 
 # What is right, too, of the odd objects of the tests, by the names of the arguments.
@@ -114,7 +168,7 @@ RIGHT = {
     "streets": [[], STREETS[:1]], "gates": [["main"]], "start": ["in"], "goal": ["in"],
     "width": [0, 1, 7, 10 ** 29], "amount": [0, 1], "many": [0, 1], "change": [("out", "main")],
     "changes": [[], [("out", "main")]], "names": [[]], "side": [[]], "name": [], "street": [], "flow": [],
-    "cut": [], "lot": [], "measure": [], "table": [], "key": [],
+    "cut": [], "lot": [], "other": [], "measure": [], "table": [], "key": [],
 }
 
 
@@ -132,6 +186,8 @@ def is_right(function, right, name, thing):
     for kind in (Quarter, Town):
         if isinstance(right[name], kind):
             return isinstance(thing, kind)
+    if name == "lot" and isinstance(right["lot"], list):
+        return plain(thing) == plain([])
     if name == "key" and isinstance(right["key"], tuple) and len(right["key"]) == 2:
         return plain(thing) == plain(("in", "out"))
     return plain(thing) in [plain(other) for other in RIGHT[name]]

@@ -3,7 +3,7 @@
 import copy
 import unittest
 
-from gatequarters import alike, quarters
+from gatequarters import quarters, spares
 from gatequarters.errors import InvalidChange, InvalidPlace, Unlike
 from gatequarters.quarters import Quarter, Town
 from tests.calls import CALLS, STREETS, error_for, is_right
@@ -70,8 +70,10 @@ class Arguments(unittest.TestCase):
         for function, right in CALLS:
             if "value" in right:
                 self.assertIs(function(**right), True, function.__name__)
+                # Nothing at all can always be shut, or widened.
+                empty = [plain([])] if function in (spares.is_spare, spares.is_wide) else []
                 for thing in odd_objects():
-                    if plain(thing) != plain(right["value"]):
+                    if plain(thing) not in [plain(right["value"])] + empty:
                         self.assertIs(function(**{**right, "value": thing}), False, function.__name__)
 
     def test_arguments_by_position_and_by_name(self):

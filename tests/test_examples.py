@@ -104,6 +104,94 @@ link = Town([("t", "a", "b", 99, 0)])
 # [True, False]
 '''
 
+ORDERS = '''
+from gatequarters.orders import greatest_loss, is_worse_town, least_width, mending_lots, never_worse, standing, worse_entries
+from gatequarters.quarters import Quarter, Town
+one = Quarter([("main", "in", "out", 2, 1)], ["in", "out"])
+two = Quarter([("left", "in", "out", 1, 1), ("right", "in", "out", 1, 1)], ["in", "out"])
+row = Quarter([("first", "in", "mid", 1, 1), ("second", "mid", "out", 1, 1)], ["in", "out"])
+ring = Quarter([("ab", "a", "b", 1, 1), ("bc", "b", "c", 1, 1), ("ca", "c", "a", 1, 1)], ["a", "b", "c"])
+into, out = [("ax", "a", "x", 1, 1), ("bx", "b", "x", 1, 1), ("cx", "c", "x", 1, 1)], [("xa", "x", "a", 9, 1), ("xb", "x", "b", 9, 1), ("xc", "x", "c", 9, 1)]
+star = Quarter(into + out, ["a", "b", "c"])
+[standing(one, two, measure) for measure in ["way", "widest", "most", "shut1"]]
+# ['alike', 'worse', 'alike', 'better']
+[standing(ring, star, "most"), worse_entries(star, ring, "most"), standing(ring, star, "way"), worse_entries(ring, star, "way")]
+# ['better', [('a', 'b'), ('a', 'c'), ('b', 'c')], 'worse', [('a', 'b'), ('b', 'c'), ('c', 'a')]]
+[never_worse(two, one, "shut1"), worse_entries(one, two, "widest"), is_worse_town(one, two, "widest", (Town([]), "in", "out"))]
+# [False, [('in', 'out')], True]
+[is_worse_town(star, ring, "most", (Town([("tie", "a", "c", 9, 1)]), "a", "b")), is_worse_town(star, ring, "most", (Town([]), "a", "b"))]
+# [True, False]
+[mending_lots(one, two, "widest"), mending_lots(one, row, "most"), mending_lots(one, row, "way"), mending_lots(row, one, "way")]
+# [[['left'], ['right']], [['first', 'second']], [['first'], ['second']], [[]]]
+[greatest_loss(star, ring, "most"), greatest_loss(one, two, "widest"), least_width(one, two, "left", "widest"), least_width(one, row, "first", "most")]
+# [1, 1, 2, None]
+'''
+
+ROOMS = '''
+from gatequarters.quarters import Quarter
+from gatequarters.rooms import are_trade_bars, length_room, noticed_at, trade_room, width_bars, width_room
+two = Quarter([("left", "in", "out", 1, 1), ("right", "in", "out", 1, 1)], ["in", "out"])
+pair = Quarter([("thin", "in", "out", 1, 3), ("wide", "in", "out", 2, 1)], ["in", "out"])
+neck = Quarter([("last", "mid", "out", 1, 0), ("left", "in", "mid", 1, 1), ("right", "in", "mid", 1, 1)], ["in", "out"])
+into, out = [("ax", "a", "x", 1, 1), ("bx", "b", "x", 1, 1), ("cx", "c", "x", 1, 1)], [("xa", "x", "a", 9, 1), ("xb", "x", "b", 9, 1), ("xc", "x", "c", 9, 1)]
+star = Quarter(into + out, ["a", "b", "c"])
+[width_room(two, "left", "most"), width_room(star, "xa", "most"), width_bars(star, "xa", "most"), noticed_at(star, "xa", 1, "most")]
+# [(1, 1), (2, None), (('b', 'c'), None), [('b', 'c')]]
+[width_room(pair, "thin", "widest"), width_bars(pair, "thin", "widest"), width_room(pair, "wide", "widest"), width_room(pair, "thin", "way")]
+# [(0, 2), (None, ('in', 'out')), (2, 2), (0, None)]
+[length_room(pair, "thin"), length_room(pair, "wide"), width_room(neck, "left", "most"), trade_room(neck, "left", 0, "right", "most")]
+# [(1, None), (1, 1), (0, None), (1, None)]
+[trade_room(two, "left", 2, "right", "most"), trade_room(two, "left", 3, "right", "most"), are_trade_bars(two, "left", 3, "right", "most", [("in",)])]
+# [(0, 0), None, True]
+'''
+
+SPARES = '''
+from gatequarters.quarters import Quarter
+from gatequarters.spares import dead_streets, harmful_lots, is_spare, spare_lots, sure_streets, unspared_streets, wide_lots, with_shut, with_widened
+two = Quarter([("left", "in", "out", 1, 1), ("right", "in", "out", 1, 1)], ["in", "out"])
+passage = Quarter([("ax", "a", "x", 1, 1), ("left", "x", "b", 1, 1), ("right", "x", "b", 1, 2), ("dead", "x", "y", 5, 1)], ["a", "b"])
+[spare_lots(two, "most"), spare_lots(two, "way"), harmful_lots(two, "way"), spare_lots(two, "widest")]
+# [[[]], [['left'], ['right']], [['left', 'right']], [['left'], ['right']]]
+[spare_lots(passage, "most"), harmful_lots(passage, "most"), unspared_streets(passage, "most"), unspared_streets(passage, "way")]
+# [[['dead', 'left'], ['dead', 'right']], [['ax'], ['left', 'right']], ['ax'], ['ax', 'left']]
+[is_spare(passage, "most", ["left"]), is_spare(passage, "way", ["right"]), is_spare(passage, "most", ["left", "right"]), is_spare(passage, "most", ("left",))]
+# [True, True, False, False]
+[wide_lots(passage, "most"), wide_lots(two, "most"), wide_lots(two, "way")]
+# [[['dead', 'left', 'right']], [[]], [['left', 'right']]]
+[sure_streets(passage), dead_streets(passage), with_shut(two, ["left"]).streets()]
+# [['ax'], ['dead'], [('left', 'in', 'out', 0, 1), ('right', 'in', 'out', 1, 1)]]
+with_widened(two, ["left"]).streets()
+# [('left', 'in', 'out', 3, 1), ('right', 'in', 'out', 1, 1)]
+single = Quarter([("main", "in", "out", 2, 1)], ["in", "out"])
+[spare_lots(single, "shut1"), spare_lots(single, "most")]
+# [[['main']], [[]]]
+'''
+
+FAILING = '''
+from gatequarters.failing import cutting_streets, doubled, fewest_doubled, loss_by_shutting, is_failing_paper, is_fewest_doubled, is_losing_town, is_safe, is_worst_shutting, losses, lowering_streets, most_left
+from gatequarters.quarters import Quarter, Town
+two = Quarter([("left", "in", "out", 1, 1), ("right", "in", "out", 1, 1)], ["in", "out"])
+passage = Quarter([("ax", "a", "x", 1, 1), ("left", "x", "b", 1, 1), ("right", "x", "b", 1, 2), ("dead", "x", "y", 5, 1)], ["a", "b"])
+[[most_left(two, ("in",), many) for many in [0, 1, 2]], most_left(two, ("out",), 0), most_left(passage, ("a",), 1)]
+# [[2, 1, 0], 0, 0]
+[is_worst_shutting(two, ("in",), 1, ["left"]), is_worst_shutting(two, ("in",), 1, ["left", "right"]), is_worst_shutting(two, ("out",), 1, []), is_worst_shutting(passage, ("a",), 2, ["ax"])]
+# [True, False, True, True]
+paper = [(["left"], {"left": 0, "right": 1}), (["right"], {"left": 1, "right": 0})]
+[is_failing_paper(two, ("in",), 1, paper), is_failing_paper(two, ("in",), 1, paper[:1]), is_failing_paper(two, ("in",), 0, [([], {"left": 1, "right": 1})])]
+# [True, False, True]
+[lowering_streets(two, ("in",)), lowering_streets(passage, ("a",)), cutting_streets(two, ("in",)), cutting_streets(passage, ("a",))]
+# [['left', 'right'], ['ax'], ['left', 'right'], ['ax']]
+[losses(two, 1), loss_by_shutting(two, 2), is_safe(two, 0), is_safe(two, 1), loss_by_shutting(passage, 1)]
+# [{('in',): 1, ('out',): 0}, 2, True, False, 1]
+[is_losing_town(two, 1, (Town([]), "in", "out")), is_losing_town(two, 1, (Town([]), "out", "in"))]
+# [True, False]
+[is_fewest_doubled(two, ["left"]), is_fewest_doubled(two, ["left", "right"]), fewest_doubled(passage), doubled(two, ["left"]).streets()]
+# [True, False, ['ax'], [('a', 'in', 'out', 1, 1), ('left', 'in', 'out', 1, 1), ('right', 'in', 'out', 1, 1)]]
+three = Quarter([("north", "in", "out", 1, 1), ("mid", "in", "out", 1, 1), ("south", "in", "out", 2, 1)], ["in", "out"])
+[[most_left(three, ("in",), many) for many in [0, 1, 2]], is_fewest_doubled(three, ["south"]), is_fewest_doubled(three, ["mid"])]
+# [[4, 2, 1], True, False]
+'''
+
 
 
 class Examples(unittest.TestCase):
@@ -136,6 +224,18 @@ class Examples(unittest.TestCase):
 
     def test_alike(self):
         self.run_block(ALIKE, 4)
+
+    def test_orders(self):
+        self.run_block(ORDERS, 6)
+
+    def test_rooms(self):
+        self.run_block(ROOMS, 4)
+
+    def test_spares(self):
+        self.run_block(SPARES, 7)
+
+    def test_failing(self):
+        self.run_block(FAILING, 8)
 
     def test_readme(self):
         readme = pathlib.Path(__file__).resolve().parent.parent / "README.md"

@@ -53,6 +53,36 @@ INTERFACE = {
         "notice_at(one, other, measure, key)", "notice_of(one, other, measure)", "notice_size(one, other, measure)",
         "unlike_keys(one, other, measure)",
     ],
+    "gatequarters.orders": [
+        "never_worse(elder, newer, measure)", "worse_entries(elder, newer, measure)",
+        "standing(elder, newer, measure)", "greatest_loss(elder, newer, measure)",
+        "worse_town(elder, newer, measure)", "is_worse_town(elder, newer, measure, value)",
+        "mending_lots(elder, newer, measure)", "is_mending(elder, newer, measure, lot)",
+        "least_width(elder, newer, name, measure)",
+    ],
+    "gatequarters.rooms": [
+        "entries_with(quarter, name, width, measure)", "noticed_at(quarter, name, width, measure)",
+        "width_room(quarter, name, measure)", "width_bars(quarter, name, measure)",
+        "are_width_bars(quarter, name, measure, value)", "length_room(quarter, name)", "length_bars(quarter, name)",
+        "are_length_bars(quarter, name, value)", "trade_room(quarter, name, width, other, measure)",
+        "trade_bars(quarter, name, width, other, measure)",
+        "are_trade_bars(quarter, name, width, other, measure, value)",
+    ],
+    "gatequarters.spares": [
+        "with_shut(quarter, names)", "with_widened(quarter, names)", "is_spare(quarter, measure, value)",
+        "spare_lots(quarter, measure)", "unspared_streets(quarter, measure)", "harmful_lots(quarter, measure)",
+        "is_wide(quarter, measure, value)", "wide_lots(quarter, measure)", "lot_quarter(quarter, changes, lot)",
+        "noticed_lots(quarter, changes, measure)", "unnoticed_lots(quarter, changes, measure)",
+        "sure_streets(quarter)", "dead_streets(quarter)",
+    ],
+    "gatequarters.failing": [
+        "most_left(quarter, lot, many)", "worst_shutting(quarter, lot, many)",
+        "is_worst_shutting(quarter, lot, many, value)", "failing_paper(quarter, lot, many)",
+        "is_failing_paper(quarter, lot, many, value)", "lowering_streets(quarter, lot)",
+        "cutting_streets(quarter, lot)", "losses(quarter, many)", "is_safe(quarter, many)",
+        "loss_by_shutting(quarter, many)", "losing_town(quarter, many)", "is_losing_town(quarter, many, value)",
+        "doubled(quarter, names)", "fewest_doubled(quarter)", "is_fewest_doubled(quarter, value)",
+    ],
 }
 METHODS = {"Quarter": ["streets", "gates", "__eq__"], "Town": ["streets", "__eq__"]}
 
