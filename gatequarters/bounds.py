@@ -6,7 +6,7 @@ def first_that_holds(holds, low, high):
 
     What holds for a number must hold for all greater ones.
     """
-    if low > high or not holds(high):
+    if not holds(high):
         return None
     # It holds for high, and for nothing below low.
     while low < high:

@@ -1,11 +1,10 @@
 """Papers that hold the entries of a quarter's tables from both sides, and are added up."""
 
 from gatequarters.counts import is_count
-from gatequarters.lotflows import full_lot_flow, is_lot_load, lot_amount
+from gatequarters.lotflows import full_lot_flow, is_lot_load, lot_amount, near_side, worst_for_lot
 from gatequarters.lots import is_sublist
 from gatequarters.quarters import crossings_of, is_street, street_of
 from gatequarters.searching import is_row, shortest_rows, wide_streets
-from gatequarters.sides import narrowest_sides
 from gatequarters.streams import leaving_streets, shut_streets, width_sum
 
 
@@ -98,22 +97,17 @@ def is_lot_paper(quarter, lot, value):
     return lot_amount(streets, lot, flow) == width_sum(leaving_streets(streets, side))
 
 
-def _widest_name(streets, side):
-    """Return the name of the widest street that leaves a side, of any one if none does."""
-    leaving = leaving_streets(streets, side)
-    widest = max([street[3] for street in leaving], default=0)
-    return ([street[0] for street in leaving if street[3] == widest] + [streets[0][0]])[0]
-
-
 def shut_paper(quarter, lot):
     """Return an entry paper of "shut1"."""
     streets, gates = quarter.streets(), quarter.gates()
-    side = narrowest_sides(streets, gates, lot, 1)[0]
     if not streets:
-        return ((side, None), {})
+        return ((list(lot), None), {})
+    # If no street lowers what is left, any one does for the paper.
+    name = (worst_for_lot(streets, gates, lot, 1)[1] + [streets[0][0]])[0]
+    side = near_side(shut_streets(streets, [name]), gates, lot)
     flows = {street[0]: full_lot_flow(shut_streets(streets, [street[0]]), gates, lot, None)
              for street in streets}
-    return ((side, _widest_name(streets, side)), flows)
+    return ((side, name), flows)
 
 
 def _is_flow_without(quarter, lot, name, least, value):

@@ -4,15 +4,14 @@ from itertools import combinations
 
 from gatequarters.counts import check_count_to
 from gatequarters.entries import lot_entries
-from gatequarters.lotflows import full_lot_flow, is_lot_load, lot_amount
+from gatequarters.lotflows import full_lot_amount, full_lot_flow, is_lot_load, lot_amount, worst_for_lot
 from gatequarters.lots import check_lot, check_names, is_sublist
 from gatequarters.nets import is_question
 from gatequarters.notices import holding_notice
 from gatequarters.quarters import Quarter, check_quarter
 from gatequarters.searching import open_names, wide_streets
-from gatequarters.sides import narrowest_sides
-from gatequarters.streams import leaving_streets, shut_streets
-from gatequarters.tables import answer_by
+from gatequarters.streams import shut_streets
+from gatequarters.tables import answer_by, greatest_side, least_side
 from gatequarters.words import word_at
 
 
@@ -28,35 +27,28 @@ def _check_failing(quarter, lot, many):
     check_count_to(many, 2)
 
 
+def _worst(quarter, lot, many):
+    """Return a tuple (amount, names): what is left for a lot, and a worst shutting of fewest streets."""
+    _check_failing(quarter, lot, many)
+    return worst_for_lot(quarter.streets(), quarter.gates(), lot, many)
+
+
 def most_left(quarter, lot, many):
     """Return what is left for a lot if the worst so many streets are shut."""
-    _check_failing(quarter, lot, many)
-    return _entries(quarter, many)[lot]
-
-
-def _fewest_shut(quarter, lot, many):
-    """Return how many streets, at most so many, must be shut to leave as little as can be."""
-    left = [_entries(quarter, fewer)[lot] for fewer in range(many + 1)]
-    return left.index(left[-1])
+    return _worst(quarter, lot, many)[0]
 
 
 def worst_shutting(quarter, lot, many):
     """Return a shutting of fewest streets that leaves as little for a lot as can be."""
-    _check_failing(quarter, lot, many)
-    fewest = _fewest_shut(quarter, lot, many)
-    side = narrowest_sides(quarter.streets(), quarter.gates(), lot, fewest)[0]
-    leaving = sorted([(street[3], street[0]) for street in leaving_streets(quarter.streets(), side)])
-    # The widest ones that leave it, of which each is open: with fewer more is left.
-    return sorted([name for _, name in leaving[::-1][:fewest]])
+    return _worst(quarter, lot, many)[1]
 
 
 def is_worst_shutting(quarter, lot, many, value):
     """Return whether any object is a shutting of fewest streets that leaves as little as can be."""
-    _check_failing(quarter, lot, many)
-    if not is_sublist(value, open_names(quarter.streets())) or len(value) != _fewest_shut(quarter, lot, many):
+    left, names = _worst(quarter, lot, many)
+    if not is_sublist(value, open_names(quarter.streets())) or len(value) != len(names):
         return False
-    left = lot_entries(shut_streets(quarter.streets(), value), quarter.gates(), 0)
-    return left[lot] == _entries(quarter, many)[lot]
+    return full_lot_amount(shut_streets(quarter.streets(), value), quarter.gates(), lot) == left
 
 
 def _shuttings(quarter, many):
@@ -93,27 +85,22 @@ def is_failing_paper(quarter, lot, many, value):
     return True
 
 
-def _check_lot_of(quarter, lot):
-    """Raise the first error unless a lot is one of a quarter's gates."""
-    check_quarter(quarter)
-    check_lot(quarter.gates(), lot)
-
-
 def lowering_streets(quarter, lot):
     """Return the ascending list of the open streets that lower what a lot has if they are shut."""
-    _check_lot_of(quarter, lot)
+    check_quarter(quarter)
+    check_lot(quarter.gates(), lot)
     streets, gates = quarter.streets(), quarter.gates()
-    whole = lot_entries(streets, gates, 0)[lot]
-    return [name for name in open_names(quarter.streets())
-            if lot_entries(shut_streets(streets, [name]), gates, 0)[lot] < whole]
+    whole = full_lot_amount(streets, gates, lot)
+    return [name for name in open_names(streets)
+            if full_lot_amount(shut_streets(streets, [name]), gates, lot) < whole]
 
 
 def cutting_streets(quarter, lot):
     """Return the ascending list of the open streets that leave every side of least width."""
-    _check_lot_of(quarter, lot)
-    sides = narrowest_sides(quarter.streets(), quarter.gates(), lot, 0)
+    # All of these sides lie between two of them.
+    least, greatest = least_side(quarter, lot), greatest_side(quarter, lot)
     return [name for name, start, end, _, _ in wide_streets(quarter.streets(), 1)
-            if all([start in side and end not in side for side in sides])]
+            if start in least and end not in greatest]
 
 
 def losses(quarter, many):

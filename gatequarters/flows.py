@@ -6,7 +6,7 @@ from gatequarters.lots import check_names, is_sublist
 from gatequarters.nets import asked_net, places_of_net
 from gatequarters.searching import is_row
 from gatequarters.streams import balances, full_amount, full_flow, is_load, leaving_streets, parted
-from gatequarters.streams import reached_by, reaching, rest_of, shut_streets, width_sum
+from gatequarters.streams import reached_by, reaching, rest_of, shut_streets, width_sum, worst_names
 
 
 def _is_flow(streets, origin, target, value):
@@ -226,43 +226,32 @@ def greatest_on(quarter, town, start, goal, street):
     return number + more
 
 
-def _shut_amount(streets, origin, target, names):
-    """Return the greatest amount of a flow if the quarter's streets of some names are shut."""
-    return full_amount(shut_streets(streets, [("quarter", name) for name in names]), origin, target, None)
-
-
 def most_shut(quarter, town, start, goal, names):
     """Return the greatest amount of a flow if the quarter's streets of some names are shut."""
     streets, origin, target = asked_net(quarter, town, start, goal)
     check_names(quarter, names)
-    return _shut_amount(streets, origin, target, names)
+    shut = shut_streets(streets, [("quarter", name) for name in names])
+    return full_amount(shut, origin, target, None)
 
 
-def _worst(streets, origin, target, many):
+def _worst(quarter, town, start, goal, many):
     """Return a tuple (amount, names): the worst streets of the quarter to shut, of so many."""
-    flow = full_flow(streets, origin, target, None)
-    worst = (_amount(streets, origin, flow), [])
-    # Only a street that carries something can lower the amount.
-    for side, word in flow:
-        if many > 0 and side == "quarter" and flow[(side, word)] > 0:
-            found = _worst(shut_streets(streets, [(side, word)]), origin, target, many - 1)
-            if found[0] < worst[0]:
-                worst = (found[0], sorted(found[1] + [word]))
-    return worst
+    streets, origin, target = asked_net(quarter, town, start, goal)
+    check_count_to(many, 2)
+    own = [street[0] for street in streets if street[0][0] == "quarter"]
+    amount, names = worst_names(streets, origin, target, many, own)
+    return (amount, [word for _, word in names])
 
 
 def worst_shut(quarter, town, start, goal, many):
     """Return an ascending list of at most so many names of streets that are worst to shut."""
-    streets, origin, target = asked_net(quarter, town, start, goal)
-    check_count_to(many, 2)
-    return _worst(streets, origin, target, many)[1]
+    return _worst(quarter, town, start, goal, many)[1]
 
 
 def is_worst_shut(quarter, town, start, goal, many, value):
     """Return whether any object is a list of at most so many names that are worst to shut."""
-    streets, origin, target = asked_net(quarter, town, start, goal)
-    check_count_to(many, 2)
+    least = _worst(quarter, town, start, goal, many)[0]
     names = [street[0] for street in quarter.streets()]
     if not is_sublist(value, names) or len(value) > many:
         return False
-    return _shut_amount(streets, origin, target, value) == _worst(streets, origin, target, many)[0]
+    return most_shut(quarter, town, start, goal, value) == least

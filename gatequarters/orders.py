@@ -46,7 +46,7 @@ def _longest_way_round(gates, before, after):
     What a town makes worst of it goes several times through the quarter, by gates that are
     all unlike, and between from gate to gate by streets of length 0.
     """
-    losses = [0]
+    losses = []
     for many in range(2, len(gates) + 1, 2):
         for row in permutations(gates, many):
             town = Town([(word_at(at), row[at], row[at + 1], 1, 0) for at in range(1, many - 1, 2)])

@@ -1,6 +1,6 @@
 """The widths of ALL lots of places, told by positions as in the module lots."""
 
-from gatequarters.lots import chosen, position_of
+from gatequarters.lots import chosen
 from gatequarters.quarters import ends_of
 
 
@@ -54,15 +54,6 @@ def least_widths(streets, marked, many):
     widths = side_widths(streets, places, many)
     every = 1 << len(marked)
     return [min(widths[position::every]) for position in range(every)]
-
-
-def narrowest_sides(streets, gates, lot, many):
-    """Return the sides of a lot of gates of which least is left if the widest so many are shut."""
-    places = places_from(streets, gates)
-    widths = side_widths(streets, places, many)
-    sides = range(position_of(gates, lot), len(widths), 1 << len(gates))
-    least = min([widths[position] for position in sides])
-    return [sorted(chosen(places, position)) for position in sides if widths[position] == least]
 
 
 def town_cuts(gates, town, start, goal):

@@ -116,6 +116,22 @@ def full_amount(streets, start, goal, limit):
     return balances(streets, full_flow(streets, start, goal, limit)).get(start, 0)
 
 
+def worst_names(streets, start, goal, many, names):
+    """Return a tuple (amount, names): the least amount if so many streets of some names are shut.
+
+    The names are told as an ascending list of the fewest of them that leave no more.
+    """
+    flow = full_flow(streets, start, goal, None)
+    worst = (balances(streets, flow).get(start, 0), [])
+    # Only a street that carries something can lower the amount.
+    carrying = [name for name in names if flow[name] > 0] if many > 0 else []
+    for name in carrying:
+        amount, others = worst_names(shut_streets(streets, [name]), start, goal, many - 1, names)
+        if (amount, len(others) + 1) < (worst[0], len(worst[1])):
+            worst = (amount, sorted(others + [name]))
+    return worst
+
+
 def reached_by(streets, flow, start):
     """Return the ascending list of the places to which more can flow from a place."""
     return sorted(_steps_from(_links_of(streets), flow, start))

@@ -5,13 +5,13 @@ from gatequarters.entries import entries_of
 from gatequarters.entrypapers import crossing_paper, is_crossing_paper, is_lot_paper, is_shut_paper
 from gatequarters.entrypapers import shut_paper
 from gatequarters.errors import InvalidCut, InvalidLot, InvalidTable
-from gatequarters.lotflows import full_lot_flow, is_lot_load, lot_amount
+from gatequarters.lotflows import far_side, full_lot_amount, full_lot_flow, is_lot_load, lot_amount, near_side
 from gatequarters.lots import check_lot, gate_lots, is_sublist
 from gatequarters.measures import all_measures, check_measure, is_of_pairs, keys_of
 from gatequarters.nets import check_places
 from gatequarters.quarters import check_gates, check_quarter, crossings_of, places_of
 from gatequarters.searching import greatest_widths, shortest_rows
-from gatequarters.sides import narrowest_sides, town_cuts
+from gatequarters.sides import town_cuts
 from gatequarters.streams import leaving_streets, width_sum
 
 
@@ -38,15 +38,13 @@ def side_width(quarter, side):
 def least_side(quarter, lot):
     """Return the side of a lot with the least width that lies in all others."""
     _check_lot_of(quarter, lot)
-    sides = narrowest_sides(quarter.streets(), quarter.gates(), lot, 0)
-    return [crossing for crossing in crossings_of(quarter) if all([crossing in side for side in sides])]
+    return near_side(quarter.streets(), quarter.gates(), lot)
 
 
 def greatest_side(quarter, lot):
     """Return the side of a lot with the least width in which all others lie."""
     _check_lot_of(quarter, lot)
-    sides = narrowest_sides(quarter.streets(), quarter.gates(), lot, 0)
-    return [crossing for crossing in crossings_of(quarter) if any([crossing in side for side in sides])]
+    return far_side(quarter.streets(), quarter.gates(), lot, crossings_of(quarter))
 
 
 def is_narrowest_side(quarter, lot, value):
@@ -56,7 +54,8 @@ def is_narrowest_side(quarter, lot, value):
         return False
     if [gate for gate in quarter.gates() if gate in value] != list(lot):
         return False
-    return width_sum(leaving_streets(quarter.streets(), value)) == table_of(quarter, "most")[lot]
+    width = width_sum(leaving_streets(quarter.streets(), value))
+    return width == full_lot_amount(quarter.streets(), quarter.gates(), lot)
 
 
 def table_of(quarter, measure):
@@ -75,9 +74,10 @@ def lot_flow(quarter, lot):
 def is_lot_flow(quarter, lot, value):
     """Return whether any object is a lot flow of the greatest amount."""
     _check_lot_of(quarter, lot)
-    if not is_lot_load(quarter.streets(), quarter.gates(), lot, value):
+    streets, gates = quarter.streets(), quarter.gates()
+    if not is_lot_load(streets, gates, lot, value):
         return False
-    return lot_amount(quarter.streets(), lot, value) == table_of(quarter, "most")[lot]
+    return lot_amount(streets, lot, value) == full_lot_amount(streets, gates, lot)
 
 
 def _check_key(quarter, measure, key):

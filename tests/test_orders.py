@@ -60,6 +60,8 @@ class Standing(unittest.TestCase):
         self.assertEqual([asked(quarter, "way", town, "a", "d") for quarter in (elder, newer)], [3, 11])
         short = newer.streets() + [("r", "a", "d", 1, 6)]
         self.assertEqual(orders.greatest_loss(elder, Quarter(short, gates), "way"), 8)
+        between = newer.streets() + [("r", "a", "d", 1, 9), ("s", "c", "b", 1, 9)]
+        self.assertEqual(orders.greatest_loss(elder, Quarter(between, gates), "way"), 6)
         shorter = short + [("s", "c", "b", 1, 6)]
         self.assertEqual(orders.greatest_loss(elder, Quarter(shorter, gates), "way"), 5)
         self.assertEqual(orders.greatest_loss(newer, elder, "way"), 0)

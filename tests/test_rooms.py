@@ -67,6 +67,23 @@ class Rooms(unittest.TestCase):
         self.assertEqual(rooms.entries_with(ONE, "main", 12, "most"), {("in",): 12, ("out",): 0})
         self.assertEqual(rooms.trade_room(wide, "main", 10000, "side", "most"), (25000, 25000))
 
+    def test_only_the_keys_at_the_very_ends_of_a_room_bar(self):
+        # Beside the thin street a width of 2 leads to b, and one of 3 to c; beside the wide one 6 and 7.
+        streets = [("ab", "a", "b", 2, 2), ("ac", "a", "c", 3, 3), ("thin", "a", "x", 1, 9), ("xb", "x", "b", 9, 0),
+                   ("xc", "x", "c", 9, 0)]
+        quarter = Quarter(streets, ["a", "b", "c"])
+        self.assertEqual(rooms.width_room(quarter, "thin", "widest"), (0, 2))
+        self.assertEqual(rooms.width_bars(quarter, "thin", "widest"), (None, ("a", "b")))
+        self.assertIs(rooms.are_width_bars(quarter, "thin", "widest", (None, ("a", "c"))), False)
+        self.assertEqual(rooms.noticed_at(quarter, "thin", 4, "widest"), [("a", "b"), ("a", "c")])
+        self.assertEqual(rooms.length_room(quarter, "thin"), (3, None))
+        self.assertIs(rooms.are_length_bars(quarter, "thin", (("a", "c"), None)), True)
+        self.assertIs(rooms.are_length_bars(quarter, "thin", (("a", "b"), None)), False)
+        inward = Quarter([("bx", "b", "x", 6, 0), ("cx", "c", "x", 7, 0), ("wide", "x", "a", 9, 0)], ["a", "b", "c"])
+        self.assertEqual(rooms.width_room(inward, "wide", "widest"), (7, None))
+        self.assertIs(rooms.are_width_bars(inward, "wide", "widest", (("c", "a"), None)), True)
+        self.assertIs(rooms.are_width_bars(inward, "wide", "widest", (("b", "a"), None)), False)
+
     def test_what_is_no_bar(self):
         bars = (None, ("in", "out"))
         self.assertIs(rooms.are_width_bars(PAIR, "thin", "widest", bars), True)

@@ -101,6 +101,16 @@ class Changes(unittest.TestCase):
         self.assertEqual(spares.unnoticed_lots(TWO, self.changes[:2], "way"), [[0, 1]])
         self.assertEqual(spares.noticed_lots(TWO, self.changes[:2], "way"), [])
 
+    def test_lots_ascend_as_lists_do(self):
+        changes = [("width", "left", 0), ("put", ("new", "in", "out", 1, 0)), ("width", "right", 0)]
+        self.assertEqual(spares.noticed_lots(TWO, changes, "way"), [[0, 2], [1]])
+        self.assertEqual(spares.unnoticed_lots(TWO, changes, "way"), [[0], [2]])
+        self.assertEqual(spares.unnoticed_lots(TWO, changes, "most"), [[0, 1], [1, 2]])
+        other = [("length", "left", 9), ("width", "left", 2), ("width", "right", 0)]
+        self.assertEqual(spares.unnoticed_lots(TWO, other, "most"), [[0, 1, 2]])
+        more = [("width", "left", 3), ("width", "right", 0), ("length", "left", 5), ("length", "right", 5)]
+        self.assertEqual(spares.unnoticed_lots(TWO, more, "way"), [[0, 1, 3], [0, 2]])
+
     def test_lots_without_a_quarter(self):
         self.assertIsNone(spares.lot_quarter(TWO, self.changes, [2, 3]))
         self.assertIsNone(spares.lot_quarter(TWO, self.changes, [0, 3]))

@@ -229,7 +229,29 @@ class Answers(unittest.TestCase):
                                  tables.answer_by(gates[::-1], measure, other, town, start, goal))
 
 
+def cut_up(quarter):
+    """Return the quarter with three crossings more on each street, which changes no table of lots."""
+    streets = []
+    for name, start, end, width, length in quarter.streets():
+        words = [start] + [name + letter for letter in "klm"] + [end]
+        for k in range(4):
+            streets.append((name + "stuv"[k], words[k], words[k + 1], width, length if k == 0 else 0))
+    return Quarter(streets, quarter.gates())
+
+
 class Great(unittest.TestCase):
+    def test_quarters_of_many_crossings(self):
+        for quarter in quarters(52, 40):
+            whole = cut_up(quarter)
+            for measure in MEASURES:
+                self.assertEqual(plain(tables.table_of(whole, measure)), plain(tables.table_of(quarter, measure)))
+            for lot in lots_by_sight(quarter.gates())[:3]:
+                for measure in ("most", "shut1"):
+                    paper = tables.entry_paper(whole, measure, lot)
+                    self.assertIs(tables.is_entry_paper(whole, measure, lot, paper), True)
+                for side in (tables.least_side(whole, lot), tables.greatest_side(whole, lot)):
+                    self.assertIs(tables.is_narrowest_side(whole, lot, side), True)
+
     def test_quarters_as_great_as_the_document_lets(self):
         chance = random.Random(51)
         words = list("abcdefgh")
