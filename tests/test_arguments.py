@@ -109,6 +109,21 @@ class Arguments(unittest.TestCase):
             self.assertEqual(plain(function(**right)), before, function.__name__)
 
 
+    def test_what_was_passed_may_be_changed_afterwards(self):
+        for function, right in CALLS:
+            arguments = copy.deepcopy(right)
+            told = function(**arguments)
+            before = plain(told)
+            spoil(list(arguments.values()))
+            self.assertEqual(plain(told), before, function.__name__)
+
+    def test_what_was_passed_does_not_change_with_what_was_returned(self):
+        for function, right in CALLS:
+            arguments = copy.deepcopy(right)
+            spoil(function(**arguments))
+            self.assertEqual(plain(arguments), plain(right), function.__name__)
+
+
 class Kept(unittest.TestCase):
     def test_a_quarter_does_not_change_with_what_was_passed(self):
         streets, gates = list(STREETS), ["out", "in"]

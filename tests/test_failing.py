@@ -45,6 +45,14 @@ class Left(unittest.TestCase):
         self.assertEqual(failing.worst_shutting(neck, ("a",), 1), ["r"])
         self.assertEqual(failing.worst_shutting(neck, ("a",), 2), ["r"])
 
+    def test_one_street_is_shut_where_two_leave_no_less(self):
+        for names in ("pqr", "qpr", "rqp"):
+            one, left, right = names
+            neck = Quarter([(one, "a", "x", 2, 1), (left, "x", "b", 1, 1), (right, "x", "b", 1, 1)], ["a", "b"])
+            self.assertEqual(failing.worst_shutting(neck, ("a",), 2), [one])
+            self.assertIs(failing.is_worst_shutting(neck, ("a",), 2, [one]), True)
+            self.assertIs(failing.is_worst_shutting(neck, ("a",), 2, sorted([left, right])), False)
+
     def test_what_is_no_worst_shutting(self):
         self.assertIs(failing.is_worst_shutting(TWO, ("in",), 2, ["left", "right"]), True)
         for value in (("left", "right"), ["right", "left"], ["left"], [], None, ["left", "left"], ["left", "none"]):

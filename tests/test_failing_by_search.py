@@ -6,8 +6,8 @@ import unittest
 
 from gatequarters import failing
 from gatequarters.quarters import Quarter
-from tests.support import asked_by_search, balance, lots_by_sight, shuttings, sides_by_search, small_quarter
-from tests.support import small_town, sublists_of, two_places, with_widths, words_of
+from tests.support import asked_by_search, balance, lots_by_sight, named_streets, shuttings, sides_by_search
+from tests.support import small_quarter, small_town, sublists_of, two_places, with_widths, words_of
 
 GATES = [["a", "b"], ["a", "b", "c"], ["a", "z"], ["a", "b", "c", "d"]]
 MEASURE = {0: "most", 1: "shut1", 2: "shut2"}
@@ -156,6 +156,37 @@ class Doubled(unittest.TestCase):
             for some in sublists_of([street[0] for street in quarter.streets()]):
                 self.assertIs(failing.is_fewest_doubled(quarter, some), some in fewest)
         self.assertGreater(len(set(sizes)), 2)
+
+
+class Great(unittest.TestCase):
+    def quarters(self, many, streets):
+        """Yield quarters as great as the document lets."""
+        chance = random.Random(51)
+        words = list("abcdefgh")
+        for _ in range(many):
+            yield Quarter(named_streets(chance, words, streets, 20000), words[:4])
+
+    def test_quarters_as_great_as_the_document_lets(self):
+        for quarter in self.quarters(12, 10):
+            for many in (0, 1, 2):
+                for lot in lots_by_sight(quarter.gates()):
+                    names = failing.worst_shutting(quarter, lot, many)
+                    self.assertIs(failing.is_worst_shutting(quarter, lot, many, names), True)
+                    left = left_with(quarter, lot, names)
+                    self.assertEqual(failing.most_left(quarter, lot, many), left)
+                    self.assertEqual(failing.losses(quarter, many)[lot], left_with(quarter, lot, []) - left)
+                    paper = failing.failing_paper(quarter, lot, many)
+                    self.assertIs(failing.is_failing_paper(quarter, lot, many, paper), True)
+                town = failing.losing_town(quarter, many)
+                self.assertIs(failing.is_losing_town(quarter, many, town), True)
+
+    def test_eight_streets_doubled(self):
+        for quarter in self.quarters(8, 8):
+            fewest = failing.fewest_doubled(quarter)
+            self.assertIs(failing.is_fewest_doubled(quarter, fewest), True)
+            more = failing.doubled(quarter, fewest)
+            for lot in lots_by_sight(quarter.gates()):
+                self.assertGreaterEqual(failing.most_left(more, lot, 1), failing.most_left(quarter, lot, 0))
 
 
 if __name__ == "__main__":

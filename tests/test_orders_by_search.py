@@ -7,8 +7,8 @@ import unittest
 from gatequarters import orders
 from gatequarters.quarters import Quarter, Town
 from gatequarters.tables import answer_by, table_of
-from tests.support import MEASURES, asked_by_search, small_quarter, small_town, sublists_of, table_by_search
-from tests.support import two_places, with_widths
+from tests.support import MEASURES, asked_by_search, named_streets, small_quarter, small_town, sublists_of
+from tests.support import table_by_search, two_places, with_widths
 
 GATES = [["a", "b"], ["a", "z"], ["a", "b", "c"], ["a", "b", "c", "d"]]
 
@@ -174,6 +174,33 @@ class Mending(unittest.TestCase):
                     self.assertEqual(orders.least_width(elder, newer, name, measure), enough)
                     seen["none" if enough is None else "own" if enough == own else "more"] += 1
         self.assertGreater(min(seen.values()), 5)
+
+
+class Great(unittest.TestCase):
+    def test_quarters_as_great_as_the_document_lets(self):
+        chance = random.Random(51)
+        for measure, streets in (("most", 14), ("shut1", 14), ("shut2", 8), ("way", 14), ("widest", 14)):
+            for _ in range(6):
+                elder, newer = [Quarter(named_streets(chance, list("abcdefgh"), streets, 20000), list("abcde"))
+                                for _ in range(2)]
+                told = orders.worse_town(elder, newer, measure)
+                self.assertIs(orders.is_worse_town(elder, newer, measure, told), told is not None)
+                self.assertIs(orders.never_worse(elder, newer, measure), told is None)
+                if measure != "way":
+                    self.check_width(elder, newer, measure)
+
+    def check_width(self, elder, newer, measure):
+        for name in ("a", "b", "c"):
+            own = [street[3] for street in newer.streets() if street[0] == name][0]
+            width = orders.least_width(elder, newer, name, measure)
+            if width is None:
+                wide = with_widths(newer, {name: 10 ** 7})
+                self.assertIs(orders.never_worse(elder, wide, measure), False)
+                continue
+            self.assertIs(orders.never_worse(elder, with_widths(newer, {name: width}), measure), True)
+            if width > own:
+                less = with_widths(newer, {name: width - 1})
+                self.assertIs(orders.never_worse(elder, less, measure), False)
 
 
 if __name__ == "__main__":

@@ -7,7 +7,7 @@ import unittest
 from gatequarters import rooms
 from gatequarters.quarters import Quarter
 from gatequarters.tables import table_of
-from tests.support import MEASURES, small_quarter, table_by_search, with_widths
+from tests.support import MEASURES, named_streets, small_quarter, table_by_search, with_widths
 
 GATES = [["a", "b"], ["a", "b", "c"], ["a", "z"], ["a", "b", "c", "d"]]
 
@@ -162,6 +162,41 @@ class Trades(unittest.TestCase):
                         self.assertTrue(right or list(value) != bars)
         self.assertGreater(sizes.count(1), 5)
         self.assertGreater(sizes.count(2), 5)
+
+
+class Great(unittest.TestCase):
+    def test_quarters_as_great_as_the_document_lets(self):
+        chance = random.Random(51)
+        for measure, streets in (("most", 14), ("shut1", 14), ("shut2", 8), ("way", 14), ("widest", 14)):
+            for _ in range(4):
+                quarter = Quarter(named_streets(chance, list("abcdefgh"), streets, 20000), list("abcde"))
+                for name in ("a", "b", "c"):
+                    self.check_room(quarter, name, measure)
+                    self.check_trade(quarter, name, chance.choice([0, 5, 20000]), "d", measure)
+
+    def check_room(self, quarter, name, measure):
+        least, greatest = rooms.width_room(quarter, name, measure)
+        for width in (least, 10 ** 7 if greatest is None else greatest):
+            self.assertEqual(rooms.noticed_at(quarter, name, width, measure), [])
+        if least:
+            self.assertNotEqual(rooms.noticed_at(quarter, name, least - 1, measure), [])
+        if greatest is not None:
+            self.assertNotEqual(rooms.noticed_at(quarter, name, greatest + 1, measure), [])
+        bars = rooms.width_bars(quarter, name, measure)
+        self.assertIs(rooms.are_width_bars(quarter, name, measure, bars), True)
+        bars = rooms.length_bars(quarter, name)
+        self.assertIs(rooms.are_length_bars(quarter, name, bars), True)
+
+    def check_trade(self, quarter, name, width, other, measure):
+        asked = (quarter, name, width, other, measure)
+        room = rooms.trade_room(*asked)
+        if room is None:
+            self.assertIs(rooms.are_trade_bars(*asked, rooms.trade_bars(*asked)), True)
+            return
+        changed = with_widths(quarter, {name: width, other: room[0]})
+        self.assertEqual(unlike(quarter, changed, measure), [])
+        changed = with_widths(quarter, {name: width, other: 10 ** 7 if room[1] is None else room[1]})
+        self.assertEqual(unlike(quarter, changed, measure), [])
 
 
 if __name__ == "__main__":

@@ -6,7 +6,7 @@ import unittest
 from gatequarters import spares
 from gatequarters.quarters import Quarter, changed
 from gatequarters.tables import table_of
-from tests.support import MEASURES, small_quarter, small_streets, sublists_of, walks, with_widths
+from tests.support import MEASURES, named_streets, small_quarter, small_streets, sublists_of, walks, with_widths
 
 GATES = [["a"], ["a", "b"], ["a", "b", "c"], ["a", "z"], ["a", "b", "c", "d"]]
 
@@ -153,6 +153,35 @@ class Changes(unittest.TestCase):
             seen["unnoticed"] += len(greatest(unnoticed)) > 1
             seen["again"] += any(set(lot) < set(other) for lot in noticed for other in unnoticed)
         self.assertGreater(min(seen.values()), 5)
+
+
+class Great(unittest.TestCase):
+    def quarters(self, many, streets):
+        """Yield quarters as great as the document lets."""
+        chance = random.Random(51)
+        words = list("abcdefgh")
+        for _ in range(many):
+            yield Quarter(named_streets(chance, words, streets, 20000), words[:4])
+
+    def test_quarters_as_great_as_the_document_lets(self):
+        for quarter in self.quarters(4, 10):
+            names = open_names(quarter)
+            for measure in ("most", "shut1", "way", "widest"):
+                for lots, judge, every in (
+                    (spares.spare_lots(quarter, measure), spares.is_spare, names),
+                    (spares.wide_lots(quarter, measure), spares.is_wide, [street[0] for street in quarter.streets()]),
+                ):
+                    self.assertEqual(lots, greatest(lots))
+                    for lot in lots:
+                        self.assertIs(judge(quarter, measure, lot), True)
+                        for name in every:
+                            if name not in lot:
+                                self.assertIs(judge(quarter, measure, sorted(lot + [name])), False)
+                for lot in spares.harmful_lots(quarter, measure):
+                    self.assertIs(spares.is_spare(quarter, measure, lot), False)
+                    for name in lot:
+                        fewer = [word for word in lot if word != name]
+                        self.assertIs(spares.is_spare(quarter, measure, fewer), True)
 
 
 if __name__ == "__main__":
