@@ -3,10 +3,15 @@
 from gatequarters.errors import InvalidCount
 
 
+def is_whole(value):
+    """Return whether any object is a whole number, of any sign."""
+    # Python takes True and False for integers; here they are none.
+    return isinstance(value, int) and not isinstance(value, bool)
+
+
 def is_count(value):
     """Return whether any object is a count, a whole number of at least 0."""
-    # Python takes True and False for integers; here they are none.
-    return isinstance(value, int) and not isinstance(value, bool) and value >= 0
+    return is_whole(value) and value >= 0
 
 
 def check_count(value):

@@ -12,7 +12,7 @@ from gatequarters.quarters import Quarter, check_quarter
 from gatequarters.searching import open_names, wide_streets
 from gatequarters.streams import shut_streets
 from gatequarters.tables import answer_by, greatest_side, least_side
-from gatequarters.words import word_at
+from gatequarters.words import free_words
 
 
 def _entries(quarter, many):
@@ -144,11 +144,8 @@ def is_losing_town(quarter, many, value):
 def _with_doubled(quarter, names):
     """Return the quarter with a second street beside each of some names."""
     streets = quarter.streets()
-    borne = [street[0] for street in streets]
-    # Of so many words, as many as there are names are not borne.
-    words = [word_at(number) for number in range(len(borne) + len(names))]
-    free = [word for word in words if word not in borne]
     doubles = [street for street in streets if street[0] in names]
+    free = free_words([street[0] for street in streets], len(doubles))
     return Quarter(streets + [(word,) + street[1:] for word, street in zip(free, doubles)], quarter.gates())
 
 

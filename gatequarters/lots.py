@@ -6,6 +6,7 @@ position has the sign 1 << k.
 
 from itertools import combinations
 
+from gatequarters.counts import is_count
 from gatequarters.errors import InvalidLot
 
 
@@ -35,11 +36,28 @@ def gate_lots(gates):
     return sorted([tuple(chosen(gates, position)) for position in range(1, (1 << len(gates)) - 1)])
 
 
+def is_lot(gates, value):
+    """Return whether any object is a lot of ascending gates."""
+    if not isinstance(value, tuple) or list(value) != [gate for gate in gates if gate in value]:
+        return False
+    return 0 < len(value) < len(gates)
+
+
 def check_lot(gates, value):
     """Raise InvalidLot unless any object is a lot of ascending gates."""
-    if not isinstance(value, tuple) or list(value) != [gate for gate in gates if gate in value]:
+    if not is_lot(gates, value):
         raise InvalidLot(value)
-    if not 0 < len(value) < len(gates):
+
+
+def are_positions(value, many):
+    """Return whether any object is an ascending list of positions in a list of so many things."""
+    # True stands for no position, though it equals 1.
+    return is_sublist(value, list(range(many))) and all([is_count(at) for at in value])
+
+
+def check_positions(value, many):
+    """Raise InvalidLot unless any object is an ascending list of positions in a list of so many."""
+    if not are_positions(value, many):
         raise InvalidLot(value)
 
 

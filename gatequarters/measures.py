@@ -27,6 +27,16 @@ def shut_by(measure):
     return ("most", "shut1", "shut2").index(measure)
 
 
+def words_of_lots(many):
+    """Return the measures of lots by which none, one, and so on up to so many streets are shut."""
+    return ["most", "shut1", "shut2"][:many + 1]
+
+
+def parts_needed(measure):
+    """Return the measures whose tables of all parts tell the table of a glued quarter."""
+    return [measure] if is_of_pairs(measure) else words_of_lots(shut_by(measure))
+
+
 def keys_of(gates, measure):
     """Return the ascending list of the keys of a measure for ascending gates."""
     if is_of_pairs(measure):

@@ -23,17 +23,29 @@ def is_street(value):
     return start != end and is_count(width) and is_count(length)
 
 
+def are_streets(value):
+    """Return whether any object is a list of streets with unlike names."""
+    if not isinstance(value, list) or not all([is_street(street) for street in value]):
+        return False
+    return len({street[0] for street in value}) == len(value)
+
+
 def check_streets(value):
     """Raise InvalidStreets unless any object is a list of streets with unlike names."""
-    are_streets = isinstance(value, list) and all([is_street(street) for street in value])
-    if not are_streets or len({street[0] for street in value}) != len(value):
+    if not are_streets(value):
         raise InvalidStreets(value)
+
+
+def are_gates(value):
+    """Return whether any object is a list of unlike words, at least one."""
+    if not isinstance(value, list) or not all([is_word(gate) for gate in value]):
+        return False
+    return 0 < len(value) == len(set(value))
 
 
 def check_gates(value):
     """Raise InvalidGates unless any object is a list of unlike words, at least one."""
-    are_words = isinstance(value, list) and all([is_word(gate) for gate in value])
-    if not are_words or not value or len(set(value)) != len(value):
+    if not are_gates(value):
         raise InvalidGates(value)
 
 

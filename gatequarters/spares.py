@@ -1,9 +1,8 @@
 """Streets that can be shut or widened together, and lots of changes that no town notices."""
 
-from gatequarters.counts import is_count
 from gatequarters.entries import entries_of
-from gatequarters.errors import InvalidChanges, InvalidLot
-from gatequarters.lots import check_names, chosen, fewest_lots, is_sublist, lies_within, most_lots
+from gatequarters.errors import InvalidChanges
+from gatequarters.lots import check_names, check_positions, chosen, fewest_lots, is_sublist, lies_within, most_lots
 from gatequarters.measures import all_measures, check_measure
 from gatequarters.quarters import Quarter, are_changes_by_form, check_quarter, fitted
 from gatequarters.searching import least_lengths, open_names, wide_streets
@@ -110,9 +109,7 @@ def _quarter_of_lot(quarter, changes, lot):
 def lot_quarter(quarter, changes, lot):
     """Return the quarter of a lot of changes, None if it has none."""
     _check_changes(quarter, changes)
-    # True stands for no position, though it equals 1.
-    if not is_sublist(lot, list(range(len(changes)))) or not all([is_count(at) for at in lot]):
-        raise InvalidLot(lot)
+    check_positions(lot, len(changes))
     return _quarter_of_lot(quarter, changes, lot)
 
 

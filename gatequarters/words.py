@@ -1,4 +1,4 @@
-"""The words a, b, .., z, aa, ab, .., as names of streets that are made here."""
+"""The words a, b, .., z, aa, ab, .., as names of streets and crossings that are made here."""
 
 _LETTERS = "abcdefghijklmnopqrstuvwxyz"
 
@@ -10,3 +10,10 @@ def word_at(number):
         number = number // 26 - 1
         word = _LETTERS[number % 26] + word
     return word
+
+
+def free_words(taken, many):
+    """Return the first so many of the words that are none of some unlike ones."""
+    # Of so many words, as many as are wanted are not taken.
+    words = [word_at(number) for number in range(len(taken) + many)]
+    return [word for word in words if word not in taken][:many]

@@ -2,6 +2,7 @@
 
 import itertools
 
+from gatequarters.city import City
 from gatequarters.errors import GateError, InvalidName
 from gatequarters.quarters import Quarter, Town
 
@@ -25,7 +26,8 @@ def odd_objects():
         {}, {None: None}, {"main": street}, {"in": "out"}, {1: True}, {("gate", "in"): 0},
         [("out", "main")], [("quarter", "main")], (("out", "main"),), {0: ("out", "main")}, {True: "in"},
         Quarter([street], ["in", "out"]), Quarter([], ["z"]), Town([street]), Town([]),
-        GateError(), InvalidName("main"), [Quarter([], ["z"])], (Town([]),), {"in": Town([])},
+        GateError(), InvalidName("main"), [Quarter([], ["z"])], (Town([]),), {"in": Town([])}, City(["in"]),
+        (0,), (0, 0), (1, -1), (True, -1), [0], [True], [[0]], [("undo",)], ("undo",), ([], ["in"]),
         [[[[[[[[[[[[[[[[[[[[[[[[[[[[[[[[[[[[[[[[]]]]]]]]]]]]]]]]]]]]]]]]]]]]]]]]]]]]]]]],
     ]
 
@@ -36,6 +38,8 @@ def plain(value):
         return f"Quarter({value.streets()}, {value.gates()})"
     if isinstance(value, Town):
         return f"Town({value.streets()})"
+    if isinstance(value, City):
+        return f"City({value.gates()}, {plain(value.promises())}, {plain(value.log())}, {plain(value.whole())})"
     if isinstance(value, list):
         return "[" + ", ".join(plain(part) for part in value) + "]"
     if isinstance(value, tuple):

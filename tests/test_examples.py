@@ -192,6 +192,135 @@ three = Quarter([("north", "in", "out", 1, 1), ("mid", "in", "out", 1, 1), ("sou
 # [[4, 2, 1], True, False]
 '''
 
+GLUING = '''
+from gatequarters.gluing import alike_inside, entry_room, glued, glued_table, pieces_of
+from gatequarters.quarters import Quarter
+one = Quarter([("main", "in", "out", 2, 1)], ["in", "out"])
+two = Quarter([("left", "in", "out", 1, 1), ("right", "in", "out", 1, 1)], ["in", "out"])
+chain = ([{"in": "a", "out": "m"}, {"in": "m", "out": "b"}], ["a", "b"])
+mosts = [{"most": {("in",): 2, ("out",): 0}, "shut1": {("in",): 0, ("out",): 0}}, {"most": {("in",): 2, ("out",): 0}, "shut1": {("in",): 1, ("out",): 0}}]
+[glued_table("most", mosts, chain), glued_table("shut1", mosts, chain)]
+# [{('a',): 2, ('b',): 0}, {('a',): 0, ('b',): 0}]
+ways = [{"way": {("in", "out"): 1, ("out", "in"): None}}] * 2
+[glued_table("way", ways, chain), entry_room("way", ways, chain, 0, ("in", "out")), entry_room("way", ways, chain, 1, ("out", "in"))]
+# [{('a', 'b'): 2, ('b', 'a'): None}, (1, 1), (0, None)]
+[entry_room("most", mosts, chain, 0, ("in",)), entry_room("most", mosts, ([{"in": "a", "out": "b"}] * 2, ["a", "b"]), 0, ("in",))]
+# [(2, None), (2, 2)]
+[alike_inside([one, two], chain, 0, two, "widest"), alike_inside([one, two], chain, 0, two, "most"), alike_inside([one, two], chain, 0, two, "shut1")]
+# [True, True, False]
+ring = Quarter([("ab", "a", "b", 1, 1), ("bc", "b", "c", 1, 1), ("ca", "c", "a", 1, 1)], ["a", "b", "c"])
+pieces_of(ring, [["ab"], ["bc", "ca"]])[1]
+# ([{'a': 'a', 'b': 'b'}, {'a': 'a', 'b': 'b', 'c': 'c'}], ['a', 'b', 'c'])
+len(glued([ring, ring], ([{"a": "a", "b": "b", "c": "c"}, {"a": "c", "b": "d", "c": "a"}], ["a", "b", "d"])).streets())
+# 6
+'''
+
+LEAST = '''
+from gatequarters.least import are_parts, barring_rows, can_be, crossings_wanted, is_least_parting, is_lone_pair, is_made_quarter, merged
+from gatequarters.quarters import Quarter
+chain = Quarter([("ax", "a", "x", 1, 0), ("xb", "x", "b", 2, 0)], ["a", "b"])
+merged(chain, [["a"], ["b", "x"]]) == Quarter([("ax", "a", "b", 1, 0)], ["a", "b"])
+# True
+[is_least_parting(chain, [["a"], ["b", "x"]]), is_least_parting(chain, [["a", "x"], ["b"]]), is_least_parting(chain, [["a"], ["b"], ["x"]])]
+# [True, False, False]
+three, star = ["a", "b", "c"], {("a",): 1, ("a", "b"): 2, ("a", "c"): 2, ("b",): 1, ("b", "c"): 2, ("c",): 1}
+wild = {("a",): 1, ("a", "b"): 3, ("a", "c"): 2, ("b",): 1, ("b", "c"): 2, ("c",): 1}
+[can_be(three, star), crossings_wanted(three, star), barring_rows(three, star), can_be(three, wild), barring_rows(three, wild), crossings_wanted(three, wild)]
+# [True, 1, [], False, [(('a',), ('b',))], None]
+[are_parts(three, star, ({("a", "b"): 0, ("a", "c"): 0, ("b", "a"): 0, ("b", "c"): 0, ("c", "a"): 0, ("c", "b"): 0}, ("out", {"a": 1, "b": 1, "c": 1}))), is_made_quarter(["a", "b"], {("a",): 2, ("b",): 0}, Quarter([("s", "a", "b", 2, 0)], ["a", "b"]))]
+# [True, True]
+[is_lone_pair(["a", "b"], ("a",), (Quarter([], ["a", "b"]), Quarter([("s", "a", "b", 1, 0)], ["a", "b"]))), is_lone_pair(["a", "b"], ("b",), (Quarter([], ["a", "b"]), Quarter([("s", "a", "b", 1, 0)], ["a", "b"])))]
+# [True, False]
+'''
+
+PRICES = '''
+from gatequarters.prices import are_price_alike, are_price_heights, barring_lot, cheapest, cost_of, costs, is_never_dearer, price_list, price_of, price_town, unlike_supply
+from gatequarters.quarters import Quarter, Town
+one = Quarter([("main", "in", "out", 2, 1)], ["in", "out"])
+two = Quarter([("left", "in", "out", 1, 1), ("right", "in", "out", 1, 1)], ["in", "out"])
+three = Quarter([("near", "in", "out", 1, 1), ("far", "in", "out", 1, 3)], ["in", "out"])
+four = Quarter([("near", "in", "out", 1, 1), ("far", "in", "out", 1, 2)], ["in", "out"])
+[cost_of(three, (2, -2)), cost_of(three, (3, -3)), cost_of(three, (-1, 1)), cheapest(three, (1, -1)), barring_lot(three, (3, -3))]
+# [4, None, None, {'far': 0, 'near': 1}, ('in',)]
+[are_price_heights(three, (2, -2), {"in": 0, "out": 3}), are_price_heights(three, (2, -2), {"in": 0, "out": 1}), are_price_heights(three, (1, -1), {"in": 0, "out": 1})]
+# [True, False, True]
+[costs(three), costs(one) == costs(two), are_price_alike(one, two), unlike_supply(three, four), is_never_dearer(three, four)]
+# [{(0, 0): 0, (1, -1): 1, (2, -2): 4}, True, True, (2, -2), True]
+[price_list(three, Town([]), "in", "out"), price_of(three, Town([("by", "in", "out", 1, 2)]), "in", "out", 2)]
+# [[0, 1, 4], 3]
+town, start, goal, number = price_town(three, (2, -2))
+[price_of(three, town, start, goal, number), price_of(four, town, start, goal, number)]
+# [4, 3]
+'''
+
+WORKS = '''
+from gatequarters.quarters import Quarter
+from gatequarters.works import best_kept, during, fewest_nights, is_bar, is_safe_order, lots_reached, safe_order, stage_of, bad_moment
+pair = Quarter([("left", "in", "out", 1, 1), ("right", "in", "out", 1, 1)], ["in", "out"])
+thin, one = Quarter([("main", "in", "out", 1, 9)], ["in", "out"]), Quarter([("main", "in", "out", 2, 1)], ["in", "out"])
+wider = [("left", "in", "out", 2, 1), ("right", "in", "out", 2, 1)]
+stage_of(pair, wider, [1]).streets()
+# [('left', 'in', 'out', 1, 1), ('right', 'in', 'out', 2, 1)]
+during(pair, wider, [], [0]).streets()
+# [('left', 'in', 'out', 0, 1), ('right', 'in', 'out', 1, 1)]
+[is_safe_order(pair, wider, thin, "most", [0, 1]), is_safe_order(pair, wider, thin, "most", [1, 0]), safe_order(pair, wider, one, "most"), lots_reached(pair, wider, one, "most")]
+# [True, True, None, [[]]]
+[is_bar(pair, wider, one, "most", [[]]), is_bar(pair, wider, thin, "most", [[]]), lots_reached(pair, wider, thin, "most")]
+# [True, False, [[], [0], [1], [0, 1]]]
+more = wider + [("detour", "in", "out", 1, 5)]
+[is_safe_order(pair, more, one, "most", [2, 0, 1]), is_safe_order(pair, more, one, "most", [0, 2, 1]), lots_reached(pair, more, one, "most")]
+# [True, False, [[], [2], [0, 2], [1, 2], [0, 1, 2]]]
+[best_kept(pair, wider, "most", ("in",)), best_kept(pair, more, "most", ("in",)), best_kept(pair, wider, "way", ("in", "out")), bad_moment(pair, wider, thin, "most", [1, 0])]
+# [1, 2, 1, None]
+[fewest_nights(pair, wider, thin, "most", 2), fewest_nights(pair, more, one, "most", 3), fewest_nights(pair, more, thin, "most", 2), fewest_nights(pair, wider, one, "most", 2)]
+# [2, 3, 2, None]
+'''
+
+CITY = '''
+from gatequarters.city import City
+from gatequarters.quarters import Quarter
+main, neck = Quarter([("main", "in", "out", 2, 1)], ["in", "out"]), Quarter([("neck", "out", "end", 1, 1)], ["out", "end"])
+wide = Quarter([("main", "in", "out", 7, 1), ("more", "in", "out", 1, 0)], ["in", "out"])
+city = City(["in", "end"])
+[city.put(main), city.put(neck), city.promise("most", "alike"), city.promise("way", "never_worse"), city.spots()]
+# [0, 1, 0, 1, [0, 1]]
+[city.barring(0, wide), city.exchange(0, wide), city.broken(), city.quarter(0) == wide, city.kept_widths(0, "main"), city.kept_widths(1, "neck")]
+# [[], None, [], True, [0, 1, 2, 3, 4, 5, 6, 7, 8, 9], [1]]
+[city.promise("way", "alike"), city.kept_lengths(0, "more"), city.kept_lengths(0, "main"), city.spare_streets(0)]
+# [2, [0], [0, 1, 2, 3, 4, 5, 6, 7, 8, 9], ['main']]
+[city.barring(0, main), city.force(0, main), city.broken(), city.witness(0), city.undo(), city.broken()]
+# [[2], None, [2], None, None, []]
+'''
+
+SCRIPTS = r'''
+from gatequarters.city import City
+from gatequarters.quarters import Quarter
+from gatequarters.scripts import end_of, play, read_script, script_text, shortened
+main, neck = Quarter([("main", "in", "out", 2, 1)], ["in", "out"]), Quarter([("neck", "out", "end", 1, 1)], ["out", "end"])
+wide = Quarter([("main", "in", "out", 7, 1), ("more", "in", "out", 1, 0)], ["in", "out"])
+day = [("put", main), ("put", neck), ("promise", "most", "alike"), ("exchange", 0, wide), ("broken",), ("promise", "way", "alike"), ("barring", 0, main)]
+play(City(["in", "end"]), day + [("exchange", 0, main), ("force", 0, main), ("broken",), ("undo",), ("spare", 0)])
+# [('put', 0), ('put', 1), ('promised', 0), ('done',), ('broken', []), ('promised', 1), ('barred', [1]), ('refused', 'Refused'), ('done',), ('broken', [1]), ('done',), ('spare', ['main'])]
+[end_of(["in", "end"], day)[0] == {0: wide, 1: neck}, len(end_of(["in", "end"], day)[1]), read_script(script_text(day)) == day]
+# [True, 2, True]
+script_text([("try", [("put", neck)]), ("promise", "way", "never_worse"), ("change", 0, [])])
+# 'try\n  put\n    neck out end 1 1\n    gates end out\n  end\nend\npromise way never_worse\nchange 0\nend'
+shortened(["in", "end"], [("put", neck), ("broken",), ("undo",), ("redo",)]) == [("put", neck), ("redo",)]
+# True
+'''
+
+PAPERS = r'''
+from gatequarters.papers import change_text, flow_text, quarter_text, read_change, read_quarter, read_table, table_text, town_text
+from gatequarters.quarters import Quarter, Town
+quarter_text(Quarter([("main", "in", "out", 2, 1), ("back", "out", "in", 0, 12)], ["out", "in"]))
+# 'back out in 0 12\nmain in out 2 1\ngates in out'
+[read_quarter("gates a") == Quarter([], ["a"]), town_text(Town([])), change_text(("put", ("ab", "a", "b", 1, 0))), read_change("width ab 10")]
+# [True, '', 'put ab a b 1 0', ('width', 'ab', 10)]
+[table_text({("b", "a"): None, ("a", "b"): 3}), table_text({(1, -1): 4, (-1, 1): None}), read_table("a = 0\na b = none")]
+# ['a b = 3\nb a = none', '-1 1 = none\n1 -1 = 4', {('a',): 0, ('a', 'b'): None}]
+flow_text({("town", "ab"): 2, ("quarter", "zz"): 0})
+# 'quarter zz 0\ntown ab 2'
+'''
 
 
 class Examples(unittest.TestCase):
@@ -236,6 +365,27 @@ class Examples(unittest.TestCase):
 
     def test_failing(self):
         self.run_block(FAILING, 8)
+
+    def test_gluing(self):
+        self.run_block(GLUING, 6)
+
+    def test_least(self):
+        self.run_block(LEAST, 5)
+
+    def test_prices(self):
+        self.run_block(PRICES, 5)
+
+    def test_works(self):
+        self.run_block(WORKS, 7)
+
+    def test_city(self):
+        self.run_block(CITY, 4)
+
+    def test_scripts(self):
+        self.run_block(SCRIPTS, 4)
+
+    def test_papers(self):
+        self.run_block(PAPERS, 4)
 
     def test_readme(self):
         readme = pathlib.Path(__file__).resolve().parent.parent / "README.md"

@@ -83,8 +83,60 @@ INTERFACE = {
         "loss_by_shutting(quarter, many)", "losing_town(quarter, many)", "is_losing_town(quarter, many, value)",
         "doubled(quarter, names)", "fewest_doubled(quarter)", "is_fewest_doubled(quarter, value)",
     ],
+    "gatequarters.gluing": [
+        "glued(quarters, plan)", "glued_table(measure, tables, plan)",
+        "alike_inside(quarters, plan, at, newer, measure)", "entry_room(measure, tables, plan, at, key)",
+        "pieces_of(quarter, dealing)", "with_town(quarter, town, places)",
+    ],
+    "gatequarters.least": [
+        "are_parts(gates, table, value)", "barring_rows(gates, table)", "can_be(gates, table)",
+        "crossings_wanted(gates, table)", "is_least_alike(quarter, value)", "is_least_parting(quarter, value)",
+        "is_lone_pair(gates, lot, value)", "is_made_quarter(gates, table, value)", "least_alike(quarter)",
+        "least_parting(quarter)", "lone_pair(gates, lot)", "made_quarter(gates, table)", "merged(quarter, parting)",
+        "parts_of(gates, table)", "side_parting(quarter)",
+    ],
+    "gatequarters.prices": [
+        "cost_of(quarter, supply)", "cheapest(quarter, supply)", "is_cheapest(quarter, supply, value)",
+        "price_heights(quarter, supply)", "are_price_heights(quarter, supply, value)", "barring_lot(quarter, supply)",
+        "is_barring_lot(quarter, supply, value)", "price_of(quarter, town, start, goal, number)",
+        "price_list(quarter, town, start, goal)", "costs(quarter)", "are_price_alike(elder, newer)",
+        "unlike_supply(elder, newer)", "is_unlike_supply(elder, newer, value)", "price_town(quarter, supply)",
+        "is_never_dearer(elder, newer)", "dearer_supply(elder, newer)", "is_dearer_supply(elder, newer, value)",
+    ],
+    "gatequarters.works": [
+        "stage_of(quarter, works, lot)", "during(quarter, works, lot, now)",
+        "safe_order(quarter, works, floor, measure)", "is_safe_order(quarter, works, floor, measure, value)",
+        "lots_reached(quarter, works, floor, measure)", "is_bar(quarter, works, floor, measure, value)",
+        "fewest_nights(quarter, works, floor, measure, most_works)",
+        "night_lots(quarter, works, floor, measure, most_works)",
+        "are_night_lots(quarter, works, floor, measure, most_works, value)",
+        "best_kept(quarter, works, measure, key)", "best_order(quarter, works, measure, key)",
+        "is_best_order(quarter, works, measure, key, value)", "bad_moment(quarter, works, floor, measure, order)",
+        "is_bad_moment(quarter, works, floor, measure, order, value)",
+    ],
+    "gatequarters.city": [
+        "City(gates)", "replayed(city, log)", "told_apart(one, other, measure)",
+    ],
+    "gatequarters.scripts": [
+        "play(city, script)", "script_text(script)", "read_script(text)", "end_of(gates, script)",
+        "shortened(gates, script)",
+    ],
+    "gatequarters.papers": [
+        "quarter_text(quarter)", "read_quarter(text)", "town_text(town)", "read_town(text)", "change_text(change)",
+        "read_change(text)", "table_text(table)", "read_table(text)", "flow_text(flow)", "read_flow(text)",
+    ],
 }
-METHODS = {"Quarter": ["streets", "gates", "__eq__"], "Town": ["streets", "__eq__"]}
+METHODS = {
+    ("gatequarters.quarters", "Quarter"): ["streets()", "gates()", "__eq__(other)"],
+    ("gatequarters.quarters", "Town"): ["streets()", "__eq__(other)"],
+    ("gatequarters.city", "City"): [
+        "gates()", "spots()", "quarter(spot)", "whole()", "promise(measure, kind)", "promises()", "release(at)",
+        "broken()", "witness(at)", "is_witness(at, value)", "put(quarter)", "take(spot)", "exchange(spot, quarter)",
+        "change(spot, changes)", "force(spot, quarter)", "barring(spot, quarter)", "kept_widths(spot, name)",
+        "kept_lengths(spot, name)", "spare_streets(spot)", "undo()", "redo()", "trial()", "attempt(action)", "copy()",
+        "log()",
+    ],
+}
 
 
 class Interface(unittest.TestCase):
@@ -112,10 +164,13 @@ class Interface(unittest.TestCase):
                 self.assertIn(thing, called, name)
 
     def test_each_method_stands_in_its_class(self):
-        quarters = importlib.import_module("gatequarters.quarters")
-        for name, methods in METHODS.items():
-            for method in methods:
-                self.assertIn(method, vars(getattr(quarters, name)))
+        for (module, name), methods in METHODS.items():
+            for row in methods:
+                method, arguments = row[:-1].split("(")
+                told = vars(getattr(importlib.import_module(module), name))
+                self.assertIn(method, told)
+                parameters = list(inspect.signature(told[method]).parameters)[1:]
+                self.assertEqual(parameters, arguments.split(", ") if arguments else [], row)
 
 
 if __name__ == "__main__":
