@@ -22,6 +22,17 @@ def spoil(value):
         value.clear()
 
 
+def keys_turned(value):
+    """Return an equal value, the keys of all dictionaries in it in the opposite order."""
+    if isinstance(value, list):
+        return [keys_turned(part) for part in value]
+    if isinstance(value, tuple):
+        return tuple(keys_turned(part) for part in value)
+    if isinstance(value, dict):
+        return {key: keys_turned(value[key]) for key in list(value)[::-1]}
+    return value
+
+
 class Arguments(unittest.TestCase):
     def refused(self, function, arguments, error, value):
         with self.assertRaises(error, msg=f"{function.__name__} {value!r}") as caught:
@@ -93,6 +104,11 @@ class Arguments(unittest.TestCase):
                     turned[name] = Quarter(right[name].streets()[::-1], right[name].gates()[::-1])
                 if isinstance(right[name], Town):
                     turned[name] = Town(right[name].streets()[::-1])
+            self.assertEqual(plain(function(**right)), plain(function(**turned)), function.__name__)
+
+    def test_the_order_of_keys_means_nothing(self):
+        for function, right in CALLS:
+            turned = {name: keys_turned(right[name]) for name in right}
             self.assertEqual(plain(function(**right)), plain(function(**turned)), function.__name__)
 
     def test_functions_do_not_change_their_arguments(self):
