@@ -84,25 +84,52 @@ def heights_of(streets, flow, crossings):
     return {crossing: rows[crossing][0] for crossing in crossings}
 
 
-def _shifted(sums, street, places, number):
-    """Return a tuple of sums at places with so much more going by a street."""
-    shifts = {street[1]: number, street[2]: -number}
-    return tuple([told + shifts.get(place, 0) for told, place in zip(sums, places)])
+def _moved(supply, start, goal):
+    """Return a supply with one more that comes in at a position, and one less at another one."""
+    moved = list(supply)
+    moved[start] = moved[start] + 1
+    moved[goal] = moved[goal] - 1
+    return tuple(moved)
 
 
-def least_costs(streets, places):
-    """Return a dictionary from what goes out at each place, as tuples, to the least cost of a load.
+def _with_one_more(flow, row):
+    """Return a flow with one more along a row of the rest."""
+    further = {name: flow[name] for name in flow}
+    for name, ahead in row:
+        further[name] = further[name] + 1 if ahead else further[name] - 1
+    return further
 
-    A load is any dictionary from the streets to numbers from 0 to their widths.
+
+def _next_supplies(streets, gates, supply, flow, known):
+    """Return a dictionary from the supplies, not known yet, of one more between two gates.
+
+    They go to tuples of what this costs more than a cheapest flow of a supply, and of a
+    cheapest flow of theirs.
     """
-    costs = {tuple([0] * len(places)): 0}
-    for street in streets:
+    found = {}
+    rest = _rest(streets, flow)
+    for start, gate in enumerate(gates):
+        goals = [goal for goal in range(len(gates)) if goal != start and _moved(supply, start, goal) not in known]
+        rows = shortest_rows(rest, [gate]) if goals else {}
+        for goal in goals:
+            if gates[goal] in rows:
+                length, row = rows[gates[goal]]
+                found[_moved(supply, start, goal)] = (length, _with_one_more(flow, row))
+    return found
+
+
+def least_costs(streets, gates):
+    """Return a dictionary from all supplies of gates that have a carrying to their least costs."""
+    nothing = tuple([0] * len(gates))
+    costs = {nothing: 0}
+    level = {nothing: {street[0]: 0 for street in streets}}
+    # A carrying can be put together row by row, so one more and one more leads to each supply.
+    while level:
         further = {}
-        for sums in costs:
-            for number in range(street[3] + 1):
-                told = _shifted(sums, street, places, number)
-                cost = costs[sums] + number * street[4]
-                if told not in further or cost < further[told]:
-                    further[told] = cost
-        costs = further
+        for supply in level:
+            found = _next_supplies(streets, gates, supply, level[supply], costs)
+            for told in found:
+                costs[told] = costs[supply] + found[told][0]
+                further[told] = found[told][1]
+        level = further
     return costs

@@ -71,7 +71,8 @@ def script_lines(script):
     for command in script:
         forms = _FORMS[command[0]]
         things = list(zip(forms, command[1:]))
-        lines.append(" ".join([command[0]] + [str(thing) for form, thing in things if form not in _BLOCKS]))
+        pieces = [str(piece) for kind, piece in things if kind not in _BLOCKS]
+        lines.append(" ".join([command[0]] + pieces))
         for form, thing in things:
             if form in _BLOCKS:
                 lines.extend(["  " + line for line in _block_lines(form, thing)] + ["end"])

@@ -48,7 +48,7 @@ def _part_gates(value, needed):
         if measure not in all_measures() or not isinstance(value[measure], dict):
             return None
         told = _gates_told(value[measure])
-        if told is None or (gates is not None and told != gates):
+        if gates is not None and told != gates:
             return None
         # Where no gates are told, there is one alone, of which there is no table but the empty one.
         if value[measure] and (not told or not is_table(told, measure, value[measure])):

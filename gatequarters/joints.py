@@ -46,7 +46,7 @@ def glued_quarter(quarters, plan):
     joints, gates = plan
     inner = [(at, word) for at, quarter in enumerate(quarters)
              for word in crossings_of(quarter) if word not in joints[at]]
-    words = dict(zip(inner, free_words(sorted(set(gates + _squares_of(joints))), len(inner))))
+    words = dict(zip(inner, free_words(gates + _squares_of(joints), len(inner))))
     for at, joint in enumerate(joints):
         for gate in joint:
             words[(at, gate)] = joint[gate]
@@ -93,8 +93,7 @@ def _both_sums(sums, others, many):
     """Return what leaves two parts if no street is shut in them, one, and so on up to so many."""
     both = []
     for shut in range(many + 1):
-        both.append(min([number + others[shut - at] for at, number in enumerate(sums[:shut + 1])
-                         if shut - at < len(others)]))
+        both.append(min([number + others[shut - at] for at, number in enumerate(sums[:shut + 1])]))
     return both
 
 

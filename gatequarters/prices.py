@@ -124,12 +124,8 @@ def price_list(quarter, town, start, goal):
 def costs(quarter):
     """Return the dictionary from all supplies that have a carrying, ascending, to their least costs."""
     check_quarter(quarter)
-    gates = quarter.gates()
-    inner = [crossing for crossing in crossings_of(quarter) if crossing not in gates]
-    told = least_costs(quarter.streets(), gates + inner)
-    nothing = tuple([0] * len(inner))
-    supplies = sorted([sums[:len(gates)] for sums in told if sums[len(gates):] == nothing])
-    return {supply: told[supply + nothing] for supply in supplies}
+    told = least_costs(quarter.streets(), quarter.gates())
+    return {supply: told[supply] for supply in sorted(told)}
 
 
 def _brought(supply):

@@ -131,10 +131,9 @@ def are_lots_of(value, many):
 
 def is_order(value, many):
     """Return whether any object is a list of all positions of so many works, each once."""
-    if not isinstance(value, list) or len(value) != many:
+    if not isinstance(value, list) or not all([are_positions([at], many) for at in value]):
         return False
-    # Only one that is not sorted may differ from all positions then.
-    return all([are_positions([at], many) for at in value]) and sorted(value) == list(range(many))
+    return sorted(value) == list(range(many))
 
 
 def worst_of(measure, values):

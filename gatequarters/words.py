@@ -13,7 +13,7 @@ def word_at(number):
 
 
 def free_words(taken, many):
-    """Return the first so many of the words that are none of some unlike ones."""
-    # Of so many words, as many as are wanted are not taken.
+    """Return the first so many of the words that are none of some."""
+    # Of so many words, at least as many as are wanted are not taken.
     words = [word_at(number) for number in range(len(taken) + many)]
     return [word for word in words if word not in taken][:many]

@@ -64,7 +64,8 @@ def drawn_parts(chance, most_gates=4, most_streets=3):
         words = sorted(set(gates) | set(chance.choice([["a", "x"], ["a", "x", "k"], ["a", "b"]])))
         streets = small_streets(chance, words, chance.randint(0, most_streets), [0, 1, 1, 2, 3], [0, 1, 2])
         quarters.append(Quarter(streets, gates))
-        joints.append(dict(zip(gates, chance.sample(squares, len(gates)))))
+        joint = list(zip(gates, chance.sample(squares, len(gates))))
+        joints.append(dict(chance.sample(joint, len(joint))))
     gates = chance.sample(squares, chance.randint(1, len(squares)))[:4]
     if chance.random() < 0.2:
         gates.append("alone")

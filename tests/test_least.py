@@ -108,6 +108,7 @@ class Tables(unittest.TestCase):
         self.assertEqual(least.made_quarter(["a"], {}).gates(), ["a"])
         self.assertIs(least.is_made_quarter(["a"], {}, Quarter([], ["a"])), True)
         self.assertIs(least.is_made_quarter(["a"], {}, ALONE), False)
+        self.assertIs(least.is_made_quarter(["a"], {}, Quarter([], ["b"])), False)
         table = {("a",): 300000, ("b",): 7}
         made = least.made_quarter(["b", "a"], table)
         self.assertEqual((table_of(made, "most"), least.crossings_wanted(["b", "a"], table)), (table, 0))
@@ -154,10 +155,14 @@ class Tables(unittest.TestCase):
             ({pair: streets[pair] for pair in list(streets)[1:]}, star), (streets, None), (streets, list(star)),
             (streets, ("in", star[1])), (streets, ("off", star[1])), (streets, ("out",)), (streets, ("out", none)),
             (streets, ("out", {**star[1], "a": True})), (streets, ("out", {**star[1], "d": 0})), (streets, ()),
-            (streets, ("out", {"a": 1, "b": 1})), (streets, ("out", [1, 1, 1])), (streets, (True, star[1])),
+            ({**{pair: streets[pair] for pair in list(streets)[1:]}, ("a", "d"): 0}, star),
+            (streets, ("out", {"a": 1, "b": 1, "d": 1})), (streets, ("out", {"a": 1, "b": 1})), (streets, ("out", [1, 1, 1])), (streets, (True, star[1])),
         ):
             self.assertIs(least.are_parts(THREE, STAR, value), False, value)
         self.assertIs(least.are_parts(THREE, STAR, PARTS), True)
+        mirror = {lot: STAR[tuple(gate for gate in THREE if gate not in lot)] for lot in STAR}
+        for word, right in (("in", True), ("out", False), ("off", False), (None, False), ("", False)):
+            self.assertIs(least.are_parts(THREE, mirror, (streets, (word, star[1]))), right)
         # A star of nothing is none.
         plain = {lot: 0 for lot in STAR}
         self.assertIs(least.are_parts(THREE, plain, (streets, ("out", none))), False)
@@ -169,6 +174,8 @@ class Tables(unittest.TestCase):
                       (Quarter([], THREE), Quarter([("s", "a", "b", 1, 0)], THREE)), {0: one, 1: other}):
             self.assertIs(least.is_lone_pair(["a", "b"], ("a",), value), False)
         self.assertIs(least.is_lone_pair(["a", "b"], ("a",), (other, one)), True)
+        self.assertIs(least.is_lone_pair(["a", "c"], ("a",), (other, one)), False)
+        self.assertIs(least.is_lone_pair(["a", "b"], ("a",), (one, Quarter(other.streets(), ["a", "c"]))), False)
 
 
 if __name__ == "__main__":

@@ -37,8 +37,8 @@ def drawn_quarters(seed, many):
     """Yield random quarters of two to six crossings."""
     chance = random.Random(seed)
     for _ in range(many):
-        gates = chance.choice([["a"], ["a", "b"], ["a", "b"], ["a", "b", "c"], ["a", "b", "c", "d"]])
-        words = sorted(set(gates) | set(["w", "x", "y"][:chance.randint(1, 3)]))
+        gates = chance.choice([["a"], ["a", "b"], ["m", "z"], ["a", "b", "c"], ["b", "n", "z"], ["a", "b", "c", "d"]])
+        words = sorted(set(gates) | set(chance.choice([["k"], ["a", "x"], ["k", "w", "y"]])))
         yield Quarter(small_streets(chance, words, chance.randint(0, 7), [0, 1, 1, 2, 3], [0, 1]), gates), chance
 
 

@@ -84,7 +84,7 @@ class Judges(unittest.TestCase):
     def test_what_are_no_price_heights(self):
         self.assertIs(prices.are_price_heights(NEAR, (2, -2), {"in": -7, "out": -4}), True)
         for value in ({"in": 0, "out": 1}, {"in": 0}, {"in": 0, "out": 3, "x": 0}, {"in": False, "out": 3}, None, {},
-                      {"in": 0, "out": None}, [0, 3], {"in": "0", "out": 3}):
+                      {"in": 0, "out": None}, {"in": 0, "end": 3}, [0, 3], {"in": "0", "out": 3}):
             self.assertIs(prices.are_price_heights(NEAR, (2, -2), value), False)
         self.assertIs(prices.are_price_heights(NEAR, (3, -3), None), False)
 
@@ -97,7 +97,9 @@ class Judges(unittest.TestCase):
     def test_supplies_are_as_little_as_can_be(self):
         dear = Quarter([("near", "in", "out", 1, 2), ("far", "in", "out", 1, 3)], ["in", "out"])
         self.assertEqual((prices.unlike_supply(NEAR, dear), prices.dearer_supply(NEAR, dear)), ((1, -1), (1, -1)))
-        for value in ((2, -2), (-1, 1), [1, -1], (1, -1, 0), None):
+        self.assertIs(prices.is_unlike_supply(NEAR, dear, (1, -1)), True)
+        self.assertIs(prices.is_dearer_supply(NEAR, dear, (1, -1)), True)
+        for value in ((2, -2), (-1, 1), [1, -1], (1, -1, 0), None, (True, -1)):
             self.assertIs(prices.is_unlike_supply(NEAR, dear, value), False)
             self.assertIs(prices.is_dearer_supply(NEAR, dear, value), False)
         self.assertIsNone(prices.dearer_supply(dear, NEAR))
@@ -106,6 +108,21 @@ class Judges(unittest.TestCase):
 
 
 class Nets(unittest.TestCase):
+    def test_what_was_sent_goes_another_way_round(self):
+        # The cheapest row of all takes the middle street, which two cheapest rows together leave.
+        streets = [("go", "in", "a", 1, 1), ("far", "in", "b", 1, 4), ("mid", "a", "b", 1, 0), ("away", "a", "out", 1, 4),
+                   ("home", "b", "out", 1, 1)]
+        quarter = Quarter(streets, ["in", "out"])
+        self.assertEqual(prices.costs(quarter), {(0, 0): 0, (1, -1): 2, (2, -2): 10})
+        self.assertEqual(prices.price_list(quarter, Town([]), "in", "out"), [0, 2, 10])
+        self.assertEqual(prices.cheapest(quarter, (1, -1)), {"away": 0, "far": 0, "go": 1, "home": 1, "mid": 1})
+        self.assertEqual(prices.cheapest(quarter, (2, -2)), {"away": 1, "far": 1, "go": 1, "home": 1, "mid": 0})
+        marks = prices.price_heights(quarter, (2, -2))
+        self.assertIs(prices.are_price_heights(quarter, (2, -2), marks), True)
+        for number, price in ((1, 2), (2, 10), (3, None)):
+            self.assertEqual(prices.price_of(Quarter([], ["in", "out"]), Town(streets), "in", "out", number), price)
+        self.assertEqual(prices.price_list(Quarter([], ["in", "out"]), Town(streets), "in", "out"), [0, 2, 10])
+
     def test_numbers_and_places(self):
         for number in (-1, True, "1", None, (1,)):
             with self.assertRaises(InvalidCount) as caught:

@@ -11,6 +11,26 @@ BUILTINS = set(dir(builtins))
 WORDS_BARRED = {"type", "typing", "enum", "register", "elements", "open", "input", "law", "mro"}
 
 
+ALLOWED = set(
+    "len range enumerate zip min max sum abs sorted reversed int str bool list tuple dict set isinstance any all "
+    "ValueError".split())
+NOT_USED = (ast.Global, ast.Nonlocal, ast.Yield, ast.Await, ast.AsyncFunctionDef, ast.GeneratorExp, ast.Div, ast.Assert)
+VIEWS = {"range", "zip", "enumerate", "reversed", "items", "keys", "values"}
+AT_ONCE = {"list", "tuple", "dict", "sorted", "sum", "any", "all", "enumerate", "zip", "min", "max"}
+
+
+def name_called(call):
+    """Return the name of what is called, None if it has none."""
+    return getattr(call.func, "id", getattr(call.func, "attr", None))
+
+
+def is_iterated(parent, node):
+    """Return whether a view is iterated where it stands."""
+    if isinstance(parent, (ast.For, ast.comprehension)):
+        return parent.iter is node
+    return isinstance(parent, ast.Call) and name_called(parent) in AT_ONCE and parent.args[0] is node
+
+
 def files():
     """Return the package's files with their texts."""
     return [(path, path.read_text(encoding="utf-8")) for path in sorted(PACKAGE.rglob("*.py"))]
@@ -81,6 +101,38 @@ class Rules(unittest.TestCase):
             free = [name for name in ahead if not any(other in ahead for other in ahead[name])]
             self.assertTrue(free, ahead)
             ahead = {name: ahead[name] for name in ahead if name not in free}
+
+    def test_only_the_builtins_of_the_rules(self):
+        for path, text in files():
+            for node in ast.walk(ast.parse(text)):
+                if isinstance(node, ast.Name) and node.id in BUILTINS:
+                    self.assertIn(node.id, ALLOWED, (path, node.lineno))
+                self.assertNotIsInstance(node, NOT_USED, path)
+
+    def test_views_and_ranges_are_iterated_at_once(self):
+        for path, text in files():
+            for parent in ast.walk(ast.parse(text)):
+                for node in ast.iter_child_nodes(parent):
+                    if isinstance(node, ast.Call) and name_called(node) in VIEWS:
+                        self.assertTrue(is_iterated(parent, node), (path, node.lineno))
+
+    def test_sets_are_sorted_measured_or_compared(self):
+        for path, text in files():
+            for parent in ast.walk(ast.parse(text)):
+                for node in ast.iter_child_nodes(parent):
+                    is_set = isinstance(node, (ast.Set, ast.SetComp))
+                    if is_set or (isinstance(node, ast.Call) and name_called(node) in ("set", "frozenset")):
+                        at_once = isinstance(parent, ast.Call) and name_called(parent) in ("sorted", "len")
+                        self.assertTrue(at_once or isinstance(parent, (ast.Compare, ast.BinOp)), (path, node.lineno))
+
+    def test_identity_is_asked_of_none_and_truths(self):
+        for path, text in files():
+            for node in ast.walk(ast.parse(text)):
+                if isinstance(node, ast.Compare):
+                    for sign, other in zip(node.ops, node.comparators):
+                        if isinstance(sign, (ast.Is, ast.IsNot)):
+                            self.assertIsInstance(other, ast.Constant, (path, node.lineno))
+                            self.assertIn(other.value, (None, True, False), (path, node.lineno))
 
     def test_truths_and_sums_are_asked_of_lists(self):
         # L7: beside classes with an ==, these take no generator expressions.

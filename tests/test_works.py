@@ -119,6 +119,14 @@ class Safe(unittest.TestCase):
             self.assertIs(caught.exception.value, most_works)
         self.assertEqual(works.fewest_nights(TWO, WIDER, NONE, "most", 10 ** 29), 1)
 
+    def test_nights_are_not_empty_and_not_too_long(self):
+        four = [(name, "in", "out", 1, 1) for name in "abcd"]
+        asked = (NONE, four, NONE, "most", 2)
+        self.assertEqual(works.fewest_nights(*asked), 2)
+        for value, right in (([[0, 3], [1, 2]], True), ([[0, 1, 2], [3]], False), ([[0, 1, 2, 3], []], False),
+                             ([[0, 1], [2]], False), ([[0], [1], [2, 3]], False), ([[2, 3], [0, 1]], True)):
+            self.assertIs(works.are_night_lots(*asked, value), right)
+
     def test_more_works_at_once_can_need_more_nights_than_works_are_left(self):
         self.assertEqual(works.fewest_nights(TWO, DETOUR, ONE, "most", 1), 3)
         self.assertEqual(works.fewest_nights(TWO, DETOUR, THIN, "most", 3), 2)
@@ -132,7 +140,8 @@ class Safe(unittest.TestCase):
                       (0, 1, HOME, "shop", "home"), (0, 1, HOME, "home", "home"), (0, 1, TWO, "home", "shop"),
                       (0, 1, (HOME, "home", "shop")), (0, 1, HOME, "home", "far"), (1, 1, HOME, "home", "shop")):
             self.assertIs(works.is_bad_moment(**HIGH, order=order, value=value), False, value)
-        self.assertIs(works.is_bad_moment(**SITE, order=order, value=None), False)
+        for value in (None, (0, 1, HOME, "home", "shop"), (2, None, HOME, "home", "shop")):
+            self.assertIs(works.is_bad_moment(**SITE, order=order, value=value), False)
 
     def test_floors_with_other_gates(self):
         for gates in (["in"], ["in", "out", "end"]):
